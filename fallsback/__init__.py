@@ -1,0 +1,1 @@
+"""Fallsback: how far failures throw processes back."""

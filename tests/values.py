@@ -1,0 +1,25 @@
+"""Values of every form that a caller can pass, right and wrong ones."""
+
+from fallsback.base.machines import Machine
+from fallsback.errors import InvalidNumber
+
+
+def nested(deep):
+    """A tuple that is nested so deep, with lists and dicts in it."""
+    value = ()
+    for level in range(deep - 1):
+        value = (value,) if level % 3 == 0 else [value] if level % 3 == 1 else {"k": value}
+    return value
+
+
+INTEGERS = (0, 1, 5, 6, 9, 10, -1, -2, 10 ** 60 - 1, -(10 ** 60) + 1)
+TOO_LONG = (10 ** 60, -(10 ** 60), 10 ** 100 - 1, -(10 ** 100) + 1)
+TRUTHS = (True, False)
+TEXTS = ("", "a", "save", "note", "send", "0", "A", "a b", "a\n", "~" * 4000)
+TUPLES = ((), (0,), (0, 0), (0, 0, 0), (True, 0), ("send", "m"), ((), ()), nested(10))
+LISTS = ([], [0], [0, 0], ["work", None, 0, 0, None], [[]])
+DICTS = ({}, {0: 0}, {"a": []}, {(0, 0): ()})
+OBJECTS = (Machine(()), InvalidNumber(0))
+
+OTHERS = TOO_LONG + TRUTHS + (None,) + TEXTS + TUPLES + LISTS + DICTS + OBJECTS
+EVERY = INTEGERS + OTHERS
