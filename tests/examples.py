@@ -23,8 +23,10 @@ def run_line(case, code, below, known):
         if kept:
             case.assertEqual(", ".join([repr(arg) for arg in error.args]) + ")", kept, code)
     else:
-        case.assertEqual(eval(code, known), ast.literal_eval(below), code)
-        case.assertEqual(repr(eval(code, known)), below, code)
+        # Evaluated once: some calls change an object.
+        value = eval(code, known)
+        case.assertEqual(value, ast.literal_eval(below), code)
+        case.assertEqual(repr(value), below, code)
 
 
 def raised(call):

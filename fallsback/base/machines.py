@@ -19,7 +19,7 @@ def is_move(value):
         return False
     act, kind, target, price, keeping = value
     return (_can_have_kind(act, kind) and is_below(target, MAX_STATES)
-            and is_price(price) and _can_have_keeping(act, keeping))
+            and is_price(price) and can_have_keeping(act, keeping))
 
 
 def _can_have_kind(act, kind):
@@ -28,7 +28,8 @@ def _can_have_kind(act, kind):
     return act in ACTS and kind is None
 
 
-def _can_have_keeping(act, keeping):
+def can_have_keeping(act, keeping):
+    """Whether a move with this act can have this keeping."""
     if keeping == "note":
         return act == "take"
     return keeping in KEEPINGS

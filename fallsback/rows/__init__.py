@@ -1,0 +1,1 @@
+"""Rows, standings and greatest losses."""

@@ -1,0 +1,189 @@
+"""Ledgers: what the failure of each process would cost, gone on with step by step."""
+
+from fallsback.base.programs import check_failed, check_program
+from fallsback.base.words import is_integer, is_word
+from fallsback.errors import InvalidOperation, InvalidRun
+from fallsback.rows.spots import (
+    CODES, bits, first_spot, holders_at, lanes_at, name_of, names_in, payment, spot_behind, standing_at, states_at,
+)
+from fallsback.run.moments import is_possible
+from fallsback.run.pieces import arrow_table, open_piece, piece_list, reached
+from fallsback.run.runs import check_run
+
+
+def holders(run):
+    """The tuple of all holders behind a run: processes, then letters of sure kinds in lanes, as (kind, position)."""
+    check_run(run)
+    program = run.program
+    return program.processes + tuple([letter for letter in _letters_under_way(run) if program[letter[0]][3]])
+
+
+def rows_of(run):
+    """The dict from the holders behind a run to their rows, by its pieces and arrows."""
+    check_run(run)
+    table, pieces = arrow_table(run), piece_list(run)
+    sent = _letters_under_way(run)
+    rows = {}
+    for holder in holders(run):
+        piece = open_piece(run, holder) if holder in run.program.processes else pieces[sent[holder]]
+        found = reached(table, [piece])
+        letters = [letter for letter in sent if pieces[sent[letter]] in found]
+        rows[holder] = (_prices_in(run, pieces, found), tuple(letters))
+    return rows
+
+
+def _letters_under_way(run):
+    """The dict from all letters in lanes, as (kind, position), to the indices of the steps that sent them."""
+    return {(kind, position): sent for kind, lane in run.lanes.items() for position, sent in enumerate(lane)}
+
+
+def _prices_in(run, pieces, found):
+    """The dict from the processes of the found pieces to the sums of the prices of the steps in these."""
+    prices = {}
+    for name in sorted({process for process, _ in found}):
+        steps = list(zip(run.own(name), run.moves_of(name)))
+        prices[name] = sum([move[3] for at, move in steps if pieces[at] in found])
+    return prices
+
+
+def joined(one, other):
+    """Two rows joined."""
+    _check_row(one)
+    _check_row(other)
+    names = sorted(set([*one[0], *other[0]]))
+    prices = {name: max(one[0].get(name, 0), other[0].get(name, 0)) for name in names}
+    return (prices, tuple(sorted(set(one[1] + other[1]))))
+
+
+def _check_row(value):
+    if not isinstance(value, tuple) or len(value) != 2 or not _are_prices(value[0]) or not _are_letters(value[1]):
+        raise InvalidOperation("a row is a pair of a dict of prices and an ascending tuple of letters")
+
+
+def _are_prices(value):
+    if not isinstance(value, dict):
+        return False
+    return all([is_word(name) and _is_number(value[name]) for name in value])
+
+
+def _are_letters(value):
+    if not isinstance(value, tuple) or not all([_is_letter(letter) for letter in value]):
+        return False
+    return list(value) == sorted(set(value))
+
+
+def _is_letter(value):
+    return isinstance(value, tuple) and len(value) == 2 and is_word(value[0]) and _is_number(value[1])
+
+
+def _is_number(value):
+    return is_integer(value) and value >= 0
+
+
+def _prices_behind(program, spot, step, prices):
+    """The spot behind a possible step, and the prices of its rows: for each code those of all processes."""
+    later, sources = spot_behind(program, spot, step)
+    payer, price = payment(program, spot, step)
+    found = []
+    for code in range(CODES):
+        row = [max([0] + [prices[source][process] for source in bits(sources[code])])
+               for process in range(len(program))]
+        # A row without sources begins there, and has none of the steps so far.
+        if payer is not None and sources[code] and later[3][code] >> payer & 1:
+            row[payer] += price
+        found.append(tuple(row))
+    return later, tuple(found)
+
+
+class Ledger:
+    """The rows of a run, gone on with step by step."""
+
+    def __init__(self, program):
+        check_program(program)
+        self._program = program
+        self._spot = first_spot(program)
+        self._prices = ((0,) * len(program),) * CODES
+        self._many = 0
+
+    @classmethod
+    def of(cls, run):
+        """The ledger behind a run."""
+        check_run(run)
+        ledger = cls(run.program)
+        steps = run.steps
+        ledger.do(*steps)
+        return ledger
+
+    @property
+    def program(self):
+        """The program that runs."""
+        return self._program
+
+    @property
+    def states(self):
+        """The dict from the processes to their states."""
+        return states_at(self._program, self._spot)
+
+    @property
+    def lanes(self):
+        """The dict from the kinds to the numbers of letters in their lanes."""
+        return lanes_at(self._program, self._spot)
+
+    @property
+    def rows(self):
+        """The dict from the holders, processes first, to their rows."""
+        return {name_of(self._program, code): self._row_at(code) for code in holders_at(self._spot)}
+
+    @property
+    def standing(self):
+        """The standing behind the steps."""
+        return standing_at(self._program, self._spot)
+
+    def row(self, holder):
+        """The row of a holder."""
+        # Looked up by its text, a letter at False is not one at 0.
+        codes = {repr(name_of(self._program, code)): code for code in holders_at(self._spot)}
+        if repr(holder) not in codes:
+            raise InvalidOperation("there is no such holder")
+        return self._row_at(codes[repr(holder)])
+
+    def _row_at(self, code):
+        """The row of the holder with this code."""
+        names, letters = names_in(self._program, self._spot[3][code])
+        numbered = dict(zip(self._program.processes, self._prices[code]))
+        return ({name: numbered[name] for name in names}, letters)
+
+    def do(self, *steps):
+        """Does the steps, all or none, and returns the number of all steps done so far."""
+        spot, prices = self._spot, self._prices
+        for at, step in enumerate(steps):
+            if not is_possible(self._program, states_at(self._program, spot), lanes_at(self._program, spot), step):
+                raise InvalidRun(at)
+            spot, prices = _prices_behind(self._program, spot, step, prices)
+        self._spot, self._prices = spot, prices
+        self._many += len(steps)
+        return self._many
+
+    def loses(self, *failed):
+        """The dict from all processes to their losses if these fail."""
+        check_failed(self._program, failed)
+        codes = [self._program.processes.index(name) for name in failed]
+        return {name: max([self._prices[code][at] for code in codes])
+                for at, name in enumerate(self._program.processes)}
+
+    def twin(self):
+        """Another ledger in the same state."""
+        other = Ledger(self._program)
+        other._spot, other._prices, other._many = self._spot, self._prices, self._many
+        return other
+
+    def __len__(self):
+        # The steps themselves are not kept.
+        return len(range(self._many))
+
+    def __eq__(self, other):
+        return (isinstance(other, Ledger) and self._program == other._program
+                and self._spot == other._spot and self._prices == other._prices)
+
+    def __str__(self):
+        return f"ledger of {len(self)} steps, {len(holders_at(self._spot))} holders"

@@ -1,0 +1,1 @@
+"""Runs, lines and histories."""
