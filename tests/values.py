@@ -1,10 +1,14 @@
 """Values of every form that a caller can pass, right and wrong ones."""
 
 from fallsback.base.machines import Machine
+from fallsback.desk.desk import Desk
 from fallsback.errors import InvalidNumber
+from fallsback.plan.rules import Rule
 from fallsback.rows.ledgers import Ledger
 from fallsback.run.histories import History
 from fallsback.run.runs import Run
+from fallsback.text.formats import write_program
+from fallsback.text.shell import Shell
 from tests.samples import TALK
 
 
@@ -25,6 +29,7 @@ LISTS = ([], [0], [0, 0], ["work", None, 0, 0, None], ["a", 0], [[]])
 DICTS = ({}, {0: 0}, {"a": []}, {"a": 0, "b": 0}, {(0, 0): ()})
 OBJECTS = (
     Machine(()), InvalidNumber(0), TALK, Run(TALK), Run(TALK, ("a", 0)), History(TALK, ("a",)), Ledger(TALK),
+    Rule.each(("send", "ask")), Desk(TALK), Desk(TALK).trial(), Shell(write_program(TALK)),
 )
 
 OTHERS = TOO_LONG + TRUTHS + (None,) + TEXTS + TUPLES + LISTS + DICTS + OBJECTS

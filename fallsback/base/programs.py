@@ -1,6 +1,7 @@
 """Programs: processes with their machines, and the kinds of letters between them."""
 
 from fallsback.base.machines import Machine, can_have_keeping, is_price
+from fallsback.base.turns import labels_of, turns_of
 from fallsback.base.words import is_below, is_integer, is_word
 from fallsback.errors import InvalidOperation, InvalidProgram, InvalidWord, UnknownName
 
@@ -85,7 +86,7 @@ def _is_machine_of(name, value, kinds):
             and all([kind in kinds and kinds[kind][1] == name for kind in value.takes]))
 
 
-def _is_mark(program, value):
+def is_mark(program, value):
     """Whether the value is a mark for a move of the program that can have this keeping."""
     if not isinstance(value, tuple) or len(value) != 4:
         return False
@@ -98,14 +99,20 @@ def _is_mark(program, value):
     return can_have_keeping(states[state][number][0], keeping)
 
 
+def _has_keepings(machines):
+    return any([len(machines[name].kept) > 0 for name in machines])
+
+
 def _without_keepings(machine):
     """The machine in which no move has a keeping."""
-    return Machine.of(tuple([tuple([move[:4] + (None,) for move in state]) for state in machine.states]))
+    states = [tuple([move[:4] + (None,) for move in state]) for state in machine.states]
+    return Machine(*states)
 
 
 def _with_kinds_renamed(machine, renamed):
     """The machine that sends and takes the kinds under their new names."""
-    return Machine.of(tuple([tuple([_move_renamed(move, renamed) for move in state]) for state in machine.states]))
+    states = [tuple([_move_renamed(move, renamed) for move in state]) for state in machine.states]
+    return Machine(*states)
 
 
 def _move_renamed(move, renamed):
@@ -125,6 +132,14 @@ class Program:
             raise InvalidProgram("there is no program of these machines and kinds")
         self._machines = {name: machines[name] for name in sorted(machines)}
         self._kinds = {name: kinds[name] for name in sorted(kinds)}
+        self._talk = None
+        if _has_keepings(machines):
+            self._talk = Program({name: _without_keepings(machines[name]) for name in machines}, kinds)
+        # What each step does, and what each code means: read by all that plays the program.
+        self.turns = turns_of(self._machines, self._kinds)
+        self.labels = labels_of(list(self._machines), list(self._kinds))
+        # What has been found out about the program, by names. No answer depends on what is known already.
+        self.known = {}
 
     @property
     def processes(self):
@@ -139,7 +154,7 @@ class Program:
     @property
     def talk(self):
         """The program in which no move has a keeping."""
-        return Program({name: _without_keepings(self._machines[name]) for name in self._machines}, self._kinds)
+        return self if self._talk is None else self._talk
 
     @property
     def marks(self):
@@ -178,7 +193,7 @@ class Program:
         machines = dict(self._machines)
         marked = {}
         for mark in marks:
-            if not _is_mark(self, mark) or mark[:3] in marked:
+            if not is_mark(self, mark) or mark[:3] in marked:
                 raise InvalidOperation("a mark tells a keeping of a move, one for each move")
             process, state, number, keeping = mark
             marked[mark[:3]] = True

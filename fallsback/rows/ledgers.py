@@ -1,12 +1,12 @@
 """Ledgers: what the failure of each process would cost, gone on with step by step."""
 
 from fallsback.base.programs import check_failed, check_program
+from fallsback.base.turns import CODES, is_placed, turn_at
 from fallsback.base.words import is_integer, is_word
 from fallsback.errors import InvalidOperation, InvalidRun
 from fallsback.rows.spots import (
-    CODES, bits, first_spot, holders_at, lanes_at, name_of, names_in, payment, spot_behind, standing_at, states_at,
+    bits, first_spot, holders_at, lanes_at, last_letter, names_in, row_in, slot_in, spot_behind, standing_at, states_at,
 )
-from fallsback.run.moments import is_possible
 from fallsback.run.pieces import arrow_table, open_piece, piece_list, reached
 from fallsback.run.runs import check_run
 
@@ -80,19 +80,44 @@ def _is_number(value):
     return is_integer(value) and value >= 0
 
 
-def _prices_behind(program, spot, step, prices):
-    """The spot behind a possible step, and the prices of its rows: for each code those of all processes."""
-    later, sources = spot_behind(program, spot, step)
-    payer, price = payment(program, spot, step)
-    found = []
-    for code in range(CODES):
-        row = [max([0] + [prices[source][process] for source in bits(sources[code])])
-               for process in range(len(program))]
-        # A row without sources begins there, and has none of the steps so far.
-        if payer is not None and sources[code] and later[3][code] >> payer & 1:
-            row[payer] += price
-        found.append(tuple(row))
-    return later, tuple(found)
+def _row_at(program, grid, prices, code):
+    """The row of the holder with this code."""
+    names, letters = names_in(program, row_in(grid, code))
+    return ({name: prices[program.processes.index(name)][code] for name in names}, letters)
+
+
+def _pay(pose, grid, turn, prices):
+    """Goes on with the prices of all rows: for each process a list of those of the holders with each code."""
+    process = turn.process
+    if turn.price:
+        row = prices[process]
+        for code in bits(slot_in(grid, process)):
+            row[code] += turn.price
+    if turn.act == "send" and turn.sure:
+        newest = turn.letter + (pose >> turn.lane & 3)
+        for row in prices:
+            row[newest] = row[process]
+    elif turn.act == "take":
+        _pay_take(prices, turn, bits(slot_in(grid, turn.letter)), bits(slot_in(grid, process)))
+        last = last_letter(pose, turn)
+        for row in prices:
+            row[turn.letter] = row[last]
+            row[last] = 0
+    if is_placed(pose, turn):
+        for row in prices:
+            row[process] = 0
+
+
+def _pay_take(prices, turn, with_letter, with_process):
+    """The rows of these holders are joined with that of the process and with that of the letter that it takes."""
+    for row in prices:
+        own, other = row[turn.process], row[turn.letter]
+        for code in with_letter:
+            if row[code] < own:
+                row[code] = own
+        for code in with_process:
+            if row[code] < other:
+                row[code] = other
 
 
 class Ledger:
@@ -101,8 +126,8 @@ class Ledger:
     def __init__(self, program):
         check_program(program)
         self._program = program
-        self._spot = first_spot(program)
-        self._prices = ((0,) * len(program),) * CODES
+        self._pose, self._grid = first_spot(program)
+        self._prices = [[0] * CODES for _ in program.processes]
         self._many = 0
 
     @classmethod
@@ -122,45 +147,43 @@ class Ledger:
     @property
     def states(self):
         """The dict from the processes to their states."""
-        return states_at(self._program, self._spot)
+        return states_at(self._program, self._pose)
 
     @property
     def lanes(self):
         """The dict from the kinds to the numbers of letters in their lanes."""
-        return lanes_at(self._program, self._spot)
+        return lanes_at(self._program, self._pose)
 
     @property
     def rows(self):
         """The dict from the holders, processes first, to their rows."""
-        return {name_of(self._program, code): self._row_at(code) for code in holders_at(self._spot)}
+        return {self._program.labels[code]: _row_at(self._program, self._grid, self._prices, code)
+                for code in holders_at(self._program, self._pose)}
 
     @property
     def standing(self):
         """The standing behind the steps."""
-        return standing_at(self._program, self._spot)
+        return standing_at(self._program, self._pose, self._grid)
 
     def row(self, holder):
         """The row of a holder."""
-        # Looked up by its text, a letter at False is not one at 0.
-        codes = {repr(name_of(self._program, code)): code for code in holders_at(self._spot)}
-        if repr(holder) not in codes:
-            raise InvalidOperation("there is no such holder")
-        return self._row_at(codes[repr(holder)])
-
-    def _row_at(self, code):
-        """The row of the holder with this code."""
-        names, letters = names_in(self._program, self._spot[3][code])
-        numbered = dict(zip(self._program.processes, self._prices[code]))
-        return ({name: numbered[name] for name in names}, letters)
+        # Compared by its text, a letter at False is not one at 0.
+        for code in holders_at(self._program, self._pose):
+            if repr(self._program.labels[code]) == repr(holder):
+                return _row_at(self._program, self._grid, self._prices, code)
+        raise InvalidOperation("there is no such holder")
 
     def do(self, *steps):
         """Does the steps, all or none, and returns the number of all steps done so far."""
-        spot, prices = self._spot, self._prices
+        pose, grid = self._pose, self._grid
+        prices = [list(row) for row in self._prices]
         for at, step in enumerate(steps):
-            if not is_possible(self._program, states_at(self._program, spot), lanes_at(self._program, spot), step):
+            turn = turn_at(self._program.turns, pose, step)
+            if turn is None:
                 raise InvalidRun(at)
-            spot, prices = _prices_behind(self._program, spot, step, prices)
-        self._spot, self._prices = spot, prices
+            _pay(pose, grid, turn, prices)
+            pose, grid = spot_behind(pose, grid, turn)
+        self._pose, self._grid, self._prices = pose, grid, prices
         self._many += len(steps)
         return self._many
 
@@ -168,13 +191,14 @@ class Ledger:
         """The dict from all processes to their losses if these fail."""
         check_failed(self._program, failed)
         codes = [self._program.processes.index(name) for name in failed]
-        return {name: max([self._prices[code][at] for code in codes])
+        return {name: max([self._prices[at][code] for code in codes])
                 for at, name in enumerate(self._program.processes)}
 
     def twin(self):
         """Another ledger in the same state."""
         other = Ledger(self._program)
-        other._spot, other._prices, other._many = self._spot, self._prices, self._many
+        other._pose, other._grid, other._many = self._pose, self._grid, self._many
+        other._prices = [list(row) for row in self._prices]
         return other
 
     def __len__(self):
@@ -183,7 +207,7 @@ class Ledger:
 
     def __eq__(self, other):
         return (isinstance(other, Ledger) and self._program == other._program
-                and self._spot == other._spot and self._prices == other._prices)
+                and self._pose == other._pose and self._grid == other._grid and self._prices == other._prices)
 
     def __str__(self):
-        return f"ledger of {len(self)} steps, {len(holders_at(self._spot))} holders"
+        return f"ledger of {len(self)} steps, {len(holders_at(self._program, self._pose))} holders"

@@ -1,47 +1,85 @@
 """Greatest losses: how much a failure of one process can cost another one, in any run."""
 
 from fallsback.base.programs import check_process, check_program
+from fallsback.base.turns import is_placed
 from fallsback.base.words import is_integer
-from fallsback.rows.graphs import greatest_prices, groups_of, numbers_in, shortest_path, turned
-from fallsback.rows.spots import bits, first_spot, holders_at, name_of, payment, spot_behind, standing_at
-from fallsback.rows.standings import Atlas, atlas_of
+from fallsback.rows.graphs import greatest_prices, groups_of, marked, numbers_in, shortest_path, turned
+from fallsback.rows.spots import bits, first_spot, mask_behind, slot_in, spot_behind
+from fallsback.rows.standings import atlas_of, full_atlas, numbers_by_text, told_standings
 from fallsback.run.lines import lost
-from fallsback.run.pieces import reached
 from fallsback.run.runs import run_of
+
+
+class Entries:
+    """The entries of all standings with one process, numbered from 0 on.
+
+    `pairs` has for each entry the pair (number of the standing, code of the holder), and `numbers` the number for each
+    pair. `links` has the steps that lead them, `groups` the entries that lead to one another, and `prices` for each the
+    greatest price of the steps that lead to it, None if there is none.
+    """
+
+    def __init__(self, atlas, process):
+        self.pairs = [(number, code) for number, (_, grid) in enumerate(atlas.spots)
+                      for code in bits(slot_in(grid, process))]
+        self.numbers = {pair: entry for entry, pair in enumerate(self.pairs)}
+        self.links = [[] for _ in self.pairs]
+        for number, ways in enumerate(atlas.ways):
+            pose, grid = atlas.spots[number]
+            codes = bits(slot_in(grid, process))
+            for turn, later in ways:
+                price = turn.price if turn.process == process else 0
+                stays = turn.act in (None, "vanish") and not is_placed(pose, turn)
+                for code in codes:
+                    row = self.links[self.numbers[number, code]]
+                    for other in [code] if stays else bits(mask_behind(pose, grid, turn, 1 << code)):
+                        row.append((self.numbers[later, other], price, turn.step))
+        self.groups = groups_of(self.links)
+        self.prices = greatest_prices(self.links, self.groups)
+
+    def of_holder(self, holder):
+        """The list of the entries of the holder with this code."""
+        return [entry for entry, (_, code) in enumerate(self.pairs) if code == holder]
+
+    def greatest(self, holder):
+        """The greatest price at the entries of this holder, 0 if it has none, None if there is no greatest one."""
+        found = [self.prices[entry] for entry in self.of_holder(holder)]
+        return None if None in found else max(found, default=0)
+
+
+def entries_of(atlas, process):
+    """The entries with the process with this code."""
+    if ("entries", process) not in atlas.known:
+        atlas.known["entries", process] = Entries(atlas, process)
+    return atlas.known["entries", process]
 
 
 def greatest_loss(program, failed, process):
     """The greatest loss that a failure of the first process causes to the second one, None if there is none."""
     _check_names(program, failed, process)
-    links = _leads(Atlas(program), program.processes.index(process))
-    return _greatest(greatest_prices(links, groups_of(links)), program.processes.index(failed))
+    names = program.processes
+    return entries_of(full_atlas(program), names.index(process)).greatest(names.index(failed))
 
 
 def losses(program):
     """The dict from all processes that fail to dicts from all processes to their greatest losses."""
     check_program(program)
-    atlas = Atlas(program)
     names = program.processes
-    found = {failed: {} for failed in names}
-    for number, process in enumerate(names):
-        links = _leads(atlas, number)
-        prices = greatest_prices(links, groups_of(links))
-        for holder, failed in enumerate(names):
-            found[failed][process] = _greatest(prices, holder)
-    return found
+    atlas = full_atlas(program)
+    return {failed: {process: entries_of(atlas, code).greatest(holder) for code, process in enumerate(names)}
+            for holder, failed in enumerate(names)}
 
 
 def loss_paper(program, failed, process):
     """Any paper that shows the greatest loss: ("near", table, steps), or ("far", holder, u, v, w) if there is none."""
     _check_names(program, failed, process)
-    atlas = Atlas(program)
-    links = _leads(atlas, program.processes.index(process))
-    groups = groups_of(links)
-    prices = greatest_prices(links, groups)
+    atlas = full_atlas(program)
+    entries = entries_of(atlas, program.processes.index(process))
     holder = program.processes.index(failed)
-    if _greatest(prices, holder) is None:
-        return _far_paper(program, atlas, links, groups, holder)
-    return _near_paper(program, atlas, links, prices, holder, process)
+    leading = marked(turned(entries.links), entries.of_holder(holder))
+    if entries.greatest(holder) is None:
+        return _far_paper(program, atlas, entries, leading, holder)
+    steps = _dear_steps(atlas, entries, leading, holder)
+    return ("near", _near_table(program, atlas, entries, leading, process), steps)
 
 
 def is_loss_paper(program, failed, process, value):
@@ -60,72 +98,42 @@ def _check_names(program, failed, process):
     check_process(program, process)
 
 
-def _leads(atlas, process):
-    """The graph of the entries with this process: nodes (number of a standing, code of a holder), led by steps."""
-    links = {}
-    for number, spot in enumerate(atlas.spots):
-        for code in holders_at(spot):
-            if spot[3][code] >> process & 1:
-                links[number, code] = []
-    for number, ways in enumerate(atlas.ways):
-        for step, later, sources, payer, price in ways:
-            cost = price if payer == process else 0
-            for code, mask in enumerate(sources):
-                for source in bits(mask):
-                    if (number, source) in links:
-                        links[number, source].append(((later, code), cost, step))
-    return links
+def _near_table(program, atlas, entries, leading, process):
+    """The dict from the standings to dicts from their entries that lead to the goals to their prices."""
+    found = [{} for _ in atlas.spots]
+    for entry, (number, code) in enumerate(entries.pairs):
+        if leading[entry]:
+            found[number][program.labels[code], process] = entries.prices[entry]
+    return {standing: found[number] for _, standing, number in told_standings(program, atlas)}
 
 
-def _greatest(prices, holder):
-    """The greatest price at the entries of this holder, 0 if it has none, None if there is no greatest one."""
-    found = [prices[node] for node in prices if node[1] == holder]
-    return None if None in found else max(found, default=0)
-
-
-def _goals(links, holder):
-    """The dict whose keys are the entries of this holder."""
-    return {node: True for node in links if node[1] == holder}
-
-
-def _near_paper(program, atlas, links, prices, holder, process):
-    """The paper for a greatest loss: the prices of all entries that lead to those of the holder, and a dear run."""
-    goals = _goals(links, holder)
-    leading = reached(turned(links), goals)
-    table = {}
-    told = [(standing_at(program, spot), number) for number, spot in enumerate(atlas.spots)]
-    for standing, number in sorted(told, key=lambda pair: repr(pair[0])):
-        codes = [code for code in holders_at(atlas.spots[number]) if (number, code) in leading]
-        table[standing] = {(name_of(program, code), process): prices[number, code] for code in codes}
-    greatest = _greatest(prices, holder)
-    dearest = {node: True for node in goals if prices[node] == greatest}
-    return ("near", table, _dear_steps(atlas, links, prices, leading, dearest))
-
-
-def _dear_steps(atlas, links, prices, leading, dearest):
+def _dear_steps(atlas, entries, leading, holder):
     """The steps of a run behind which the price of one of the dearest entries is as great as it can be."""
+    prices, greatest = entries.prices, entries.greatest(holder)
+    dearest = {entry: True for entry in entries.of_holder(holder) if prices[entry] == greatest}
     if not dearest:
         return ()
     # Along links that leave nothing of the price out, the price of the run is that of the entry.
-    tight = {node: [(other, price, step) for other, price, step in links[node]
-                    if other in leading and prices[other] == prices[node] + price] for node in leading}
-    start, steps = shortest_path(tight, [node for node in leading if prices[node] == 0], dearest)
-    return atlas.steps_to(start[0]) + steps
+    tight = [[link for link in row if leading[link[0]] and prices[link[0]] == prices[entry] + link[1]]
+             if leading[entry] else [] for entry, row in enumerate(entries.links)]
+    starts = [entry for entry, price in enumerate(prices) if leading[entry] and price == 0]
+    start, steps = shortest_path(tight, starts, dearest)
+    number, _ = entries.pairs[start]
+    return atlas.steps_to(number) + steps
 
 
-def _far_paper(program, atlas, links, groups, holder):
+def _far_paper(program, atlas, entries, leading, holder):
     """The paper for a loss without bound: a way round that costs something, and the ways to it and from it."""
-    goals = _goals(links, holder)
-    leading = reached(turned(links), goals)
-    numbers = numbers_in(groups)
-    dear = [(node, other, step) for node in leading for other, price, step in links[node]
-            if price > 0 and numbers[node] == numbers[other]]
-    node, other, step = dear[0]
-    inner = {inside: [link for link in links[inside] if numbers[link[0]] == numbers[node]]
-             for inside in groups[numbers[node]]}
-    _, back = shortest_path(inner, [other], {node: True})
-    _, last = shortest_path(links, [node], goals)
-    return ("far", name_of(program, node[1]), atlas.steps_to(node[0]), (step,) + back, last)
+    links = entries.links
+    group_of = numbers_in(entries.groups, len(links))
+    dear = [(entry, other, step) for entry, row in enumerate(links) if leading[entry]
+            for other, price, step in row if price > 0 and group_of[entry] == group_of[other]]
+    entry, other, step = dear[0]
+    inner = [[link for link in row if group_of[link[0]] == group_of[entry]] for row in links]
+    _, back = shortest_path(inner, [other], {entry: True})
+    _, last = shortest_path(links, [entry], {goal: True for goal in entries.of_holder(holder)})
+    number, code = entries.pairs[entry]
+    return ("far", program.labels[code], atlas.steps_to(number), (step,) + back, last)
 
 
 def _is_near(program, failed, process, table, steps):
@@ -137,50 +145,51 @@ def _is_near(program, failed, process, table, steps):
     if given is None:
         return False
     most = lost(run, failed)[process]
-    holder, other = program.processes.index(failed), program.processes.index(process)
-    for number, spot in enumerate(atlas.spots):
-        if spot[3][holder] >> other & 1 and not 0 <= given[number].get((holder, other), -1) <= most:
+    code = program.processes.index(process)
+    for entry in entries_of(atlas, code).of_holder(program.processes.index(failed)):
+        number = given[code][entry]
+        if number is None or number > most:
             return False
-    return all([_are_kept(atlas.spots[number], given[number], given[way[1]], way)
-                for number, ways in enumerate(atlas.ways) for way in ways])
+    return all([_are_kept(entries_of(atlas, at).links, numbers) for at, numbers in enumerate(given)])
 
 
 def _given_numbers(program, atlas, table):
-    """For each standing the dict from (holder, process), in codes, to its integer; None if the table has not the form.
+    """For each process the list of the integers of all entries with it, None where the table has none.
 
-    What is equal to a standing or an entry, but has another text, is none: True is not 1.
+    It is None instead if the table has not the form. What is equal to a standing or an entry, but has another text, is
+    none: True is not 1.
     """
     if not isinstance(table, dict) or len(table) != len(atlas.spots):
         return None
-    rows = {repr(standing): table[standing] for standing in table}
-    given = []
-    for spot in atlas.spots:
-        row = rows.get(repr(standing_at(program, spot)))
-        if not isinstance(row, dict):
+    numbers = numbers_by_text(program, atlas)
+    codes = {repr(label): code for code, label in enumerate(program.labels) if label is not None}
+    given = [[None] * len(entries_of(atlas, process).pairs) for process in range(len(program))]
+    for standing in table:
+        number, row = numbers.get(repr(standing)), table[standing]
+        if number is None or not isinstance(row, dict):
             return None
-        codes = _entry_codes(program, spot)
-        if not all([repr(entry) in codes and is_integer(row[entry]) and row[entry] >= 0 for entry in row]):
-            return None
-        given.append({codes[repr(entry)]: row[entry] for entry in row})
+        for pair in row:
+            process, entry = _entry_told(program, atlas, number, codes, pair)
+            if entry is None or not is_integer(row[pair]) or row[pair] < 0:
+                return None
+            given[process][entry] = row[pair]
     return given
 
 
-def _entry_codes(program, spot):
-    """The dict from the texts of the entries at a spot to their pairs (holder, process) in codes."""
-    return {repr((name_of(program, code), name)): (code, process) for code in holders_at(spot)
-            for process, name in enumerate(program.processes) if spot[3][code] >> process & 1}
+def _entry_told(program, atlas, number, codes, pair):
+    """The code of the process and the number of the entry that the pair is at this standing, or None."""
+    if not isinstance(pair, tuple) or len(pair) != 2 or pair[1] not in program.processes:
+        return None, None
+    process = program.processes.index(pair[1])
+    return process, entries_of(atlas, process).numbers.get((number, codes.get(repr(pair[0]))))
 
 
-def _are_kept(spot, numbers, later_numbers, way):
-    """Whether the integers behind a step are at least those of the entries that it leads, with its price."""
-    _, _, sources, payer, price = way
-    for code, process in later_numbers:
-        cost = price if payer == process else 0
-        for source in bits(sources[code]):
-            if spot[3][source] >> process & 1:
-                number = numbers.get((source, process))
-                if number is None or number + cost > later_numbers[code, process]:
-                    return False
+def _are_kept(links, numbers):
+    """Whether the integers behind each step are at least those of the entries that it leads, with its price."""
+    for entry, row in enumerate(links):
+        for other, price, _ in row:
+            if numbers[other] is not None and (numbers[entry] is None or numbers[entry] + price > numbers[other]):
+                return False
     return True
 
 
@@ -191,30 +200,31 @@ def _is_far(program, failed, process, holder, parts):
     if not all([isinstance(part, tuple) for part in parts]):
         return False
     u, v, w = parts
-    if run_of(program, u + v + w) is None:
+    run = run_of(program, u + v + w)
+    if run is None:
         return False
+    turns = [turn for turn, _, _, _, _, _ in run.beats]
     other = program.processes.index(process)
-    spot, _, _ = _carried(program, first_spot(program), 0, other, u)
-    codes = _entry_codes(program, spot)
-    if repr((holder, process)) not in codes:
+    spot, _, _ = _carried(first_spot(program), 0, other, turns[:len(u)])
+    codes = [code for code, label in enumerate(program.labels) if label is not None and repr(label) == repr(holder)]
+    if not codes or not slot_in(spot[1], other) >> codes[0] & 1:
         return False
-    code, _ = codes[repr((holder, process))]
-    again, round_mask, paid = _carried(program, spot, 1 << code, other, v)
-    if again != spot or paid == 0 or code not in bits(round_mask):
+    again, round_mask, paid = _carried(spot, 1 << codes[0], other, turns[len(u):len(u) + len(v)])
+    if again != spot or paid == 0 or not round_mask >> codes[0] & 1:
         return False
-    _, last_mask, _ = _carried(program, spot, 1 << code, other, w)
-    return program.processes.index(failed) in bits(last_mask)
+    _, last_mask, _ = _carried(spot, 1 << codes[0], other, turns[len(u) + len(v):])
+    return last_mask >> program.processes.index(failed) & 1 == 1
 
 
-def _carried(program, spot, mask, process, steps):
-    """The spot behind the steps, the mask of the holders to which they lead those of the mask, and what they cost.
+def _carried(spot, mask, process, turns):
+    """The spot behind the turns, the mask of the holders to which they lead those of the mask, and what they cost.
 
     The entries are those of the holders in the masks with this process.
     """
+    pose, grid = spot
     paid = 0
-    for step in steps:
-        payer, price = payment(program, spot, step)
-        paid += price if payer == process else 0
-        spot, sources = spot_behind(program, spot, step)
-        mask = sum([1 << code for code, parts in enumerate(sources) if parts & mask])
-    return spot, mask, paid
+    for turn in turns:
+        paid += turn.price if turn.process == process else 0
+        mask = mask_behind(pose, grid, turn, mask)
+        pose, grid = spot_behind(pose, grid, turn)
+    return (pose, grid), mask, paid

@@ -1,11 +1,11 @@
 """Standings: what all runs of a program come to, and which failures touch which processes."""
 
 from fallsback.base.programs import check_apart, check_program
+from fallsback.base.turns import turns_at
 from fallsback.errors import InvalidOperation, TooMany
-from fallsback.rows.ledgers import Ledger
-from fallsback.rows.spots import first_spot, payment, spot_behind, standing_at, steps_from
+from fallsback.rows.spots import first_spot, slot_in, spot_behind, standing_at
 from fallsback.run.lines import thrown_back
-from fallsback.run.runs import run_of
+from fallsback.run.runs import check_run, run_of
 
 MAX_STANDINGS = 2000
 
@@ -14,76 +14,116 @@ class Atlas:
     """All standings of a program, numbered from 0 on, the nearest ones first, and the steps between them.
 
     `spots` has the spots of the standings, and `origins` a pair for each: the number of a standing ahead of it and the
-    step that leads from there, None for the first one. `ways` has for each the tuples (step, number, sources, payer,
-    price) of the steps from it: the number of the standing behind, the sources of its rows, and what the step costs.
+    turn that leads from there, None for the first one. `ways` has for each the list of pairs (turn, number) of the
+    steps from it, ascending, with the numbers of the standings behind. `known` has what has been found out about them.
+    The search ends early if there are more than MAX_STANDINGS.
     """
 
     def __init__(self, program):
         self.spots = [first_spot(program)]
         self.origins = [None]
         self.ways = []
+        self.known = {}
         numbers = {self.spots[0]: 0}
-        while len(self.ways) < len(self.spots):
+        while len(self.ways) < len(self.spots) <= MAX_STANDINGS:
             here = len(self.ways)
-            spot = self.spots[here]
+            pose, grid = self.spots[here]
             ways = []
-            for step in steps_from(program, spot):
-                later, sources = spot_behind(program, spot, step)
-                if later not in numbers:
-                    numbers[later] = len(self.spots)
+            for turn in turns_at(program.turns, pose):
+                later = spot_behind(pose, grid, turn)
+                number = numbers.get(later)
+                if number is None:
+                    number = numbers[later] = len(self.spots)
                     self.spots.append(later)
-                    self.origins.append((here, step))
-                    if len(self.spots) > MAX_STANDINGS:
-                        raise TooMany(MAX_STANDINGS)
-                payer, price = payment(program, spot, step)
-                ways.append((step, numbers[later], sources, payer, price))
+                    self.origins.append((here, turn))
+                ways.append((turn, number))
             self.ways.append(ways)
 
     def steps_to(self, number):
         """The steps of a shortest run to the standing with this number."""
         steps = []
         while self.origins[number] is not None:
-            number, step = self.origins[number]
-            steps.append(step)
+            number, turn = self.origins[number]
+            steps.append(turn.step)
         return tuple(steps[::-1])
+
+
+def atlas_of(program):
+    """The atlas of the program, or None if it has too many standings."""
+    if "atlas" not in program.known:
+        atlas = Atlas(program)
+        program.known["atlas"] = None if len(atlas.spots) > MAX_STANDINGS else atlas
+    return program.known["atlas"]
+
+
+def full_atlas(program):
+    """The atlas of the program, which has not too many standings."""
+    atlas = atlas_of(program)
+    if atlas is None:
+        raise TooMany(MAX_STANDINGS)
+    return atlas
+
+
+def told_standings(program, atlas):
+    """The list of the triples (text, standing, number), ascending by the texts, the `repr` of the standings."""
+    if "told" not in atlas.known:
+        told = [(standing_at(program, pose, grid), number) for number, (pose, grid) in enumerate(atlas.spots)]
+        atlas.known["told"] = sorted([(repr(standing), standing, number) for standing, number in told])
+    return atlas.known["told"]
+
+
+def numbers_by_text(program, atlas):
+    """The dict from the texts of the standings to their numbers."""
+    if "texts" not in atlas.known:
+        atlas.known["texts"] = {text: number for text, _, number in told_standings(program, atlas)}
+    return atlas.known["texts"]
 
 
 def first_standing(program):
     """The standing at the beginning."""
     check_program(program)
-    return standing_at(program, first_spot(program))
+    pose, grid = first_spot(program)
+    return standing_at(program, pose, grid)
 
 
 def standing_of(run):
     """The standing behind a run."""
-    return Ledger.of(run).standing
+    check_run(run)
+    pose, grid = first_spot(run.program)
+    for turn, _, _, _, _, _ in run.beats:
+        pose, grid = spot_behind(pose, grid, turn)
+    return standing_at(run.program, pose, grid)
 
 
 def standings(program):
     """All standings of the program, ascending by `repr`."""
     check_program(program)
-    return _told(program, Atlas(program))
+    return _all_standings(program, full_atlas(program))
 
 
 def steps_at(program, standing):
     """The ascending tuple of the steps that are possible at a standing, each with the standing behind it."""
     check_program(program)
-    atlas = Atlas(program)
+    atlas = full_atlas(program)
     number = _number_of(program, atlas, standing)
-    return tuple([(step, standing_at(program, atlas.spots[later])) for step, later, _, _, _ in atlas.ways[number]])
+    found = []
+    for turn, later in atlas.ways[number]:
+        pose, grid = atlas.spots[later]
+        found.append((turn.step, standing_at(program, pose, grid)))
+    return tuple(found)
 
 
 def run_to(program, standing):
     """The steps of a shortest run behind which this standing stands."""
     check_program(program)
-    atlas = Atlas(program)
+    atlas = full_atlas(program)
     return atlas.steps_to(_number_of(program, atlas, standing))
 
 
 def touches(program):
     """The ascending tuple of the pairs (r, p) of processes such that a failure of r can throw back a step of p."""
     check_program(program)
-    atlas = Atlas(program)
+    atlas = full_atlas(program)
     names = program.processes
     return tuple([(failed, process) for failed in names for process in names
                   if failed != process and _number_with(program, atlas, failed, process) is not None])
@@ -92,10 +132,10 @@ def touches(program):
 def touch_paper(program, failed, process):
     """Any paper that shows whether a failure of the first process can throw back a step of the second one."""
     _check_two(program, failed, process)
-    atlas = Atlas(program)
+    atlas = full_atlas(program)
     number = _number_with(program, atlas, failed, process)
     if number is None:
-        return ("never", _told(program, atlas))
+        return ("never", _all_standings(program, atlas))
     return ("run", atlas.steps_to(number))
 
 
@@ -113,32 +153,23 @@ def is_touch_paper(program, failed, process, value):
 def _number_with(program, atlas, failed, process):
     """The number of a nearest standing at which the row of the first process has the second one, or None."""
     holder, other = program.processes.index(failed), program.processes.index(process)
-    for number, spot in enumerate(atlas.spots):
-        if spot[3][holder] >> other & 1:
+    for number, (_, grid) in enumerate(atlas.spots):
+        if slot_in(grid, other) >> holder & 1:
             return number
     return None
 
 
-def atlas_of(program):
-    """The atlas of the program, or None if it has too many standings."""
-    try:
-        return Atlas(program)
-    except TooMany:
-        return None
-
-
-def _told(program, atlas):
+def _all_standings(program, atlas):
     """The tuple of all standings, ascending by `repr`."""
-    return tuple(sorted([standing_at(program, spot) for spot in atlas.spots], key=lambda standing: repr(standing)))
+    return tuple([standing for _, standing, _ in told_standings(program, atlas)])
 
 
 def _number_of(program, atlas, value):
     """The number of the standing that the value is."""
-    text = repr(value)
-    for number, spot in enumerate(atlas.spots):
-        if repr(standing_at(program, spot)) == text:
-            return number
-    raise InvalidOperation("this is no standing of the program")
+    number = numbers_by_text(program, atlas).get(repr(value))
+    if number is None:
+        raise InvalidOperation("this is no standing of the program")
+    return number
 
 
 def _check_two(program, failed, process):
@@ -158,4 +189,4 @@ def _is_never(program, failed, process, value):
     atlas = atlas_of(program)
     if atlas is None or _number_with(program, atlas, failed, process) is not None:
         return False
-    return repr(value) == repr(_told(program, atlas))
+    return repr(value) == repr(_all_standings(program, atlas))

@@ -1,12 +1,11 @@
 """Lines: to where the processes go back when some of them fail."""
 
 from fallsback.base.programs import check_apart, check_failed, check_process
+from fallsback.base.turns import is_clean_in
 from fallsback.base.words import is_below, is_integer
 from fallsback.errors import InvalidLine, InvalidNumber, InvalidOperation
-from fallsback.run.pieces import (
-    arrow_table, back_pieces, is_clean_after, piece_list, places_of, reached, taken_letters,
-)
-from fallsback.run.runs import check_run
+from fallsback.run.pieces import arrow_table, back_pieces, piece_list, places_of, reached, taken_letters
+from fallsback.run.runs import check_run, pose_of
 
 
 def places(run, process):
@@ -20,7 +19,7 @@ def is_clean(run, process):
     """Whether a process has taken nothing since its last place."""
     check_run(run)
     check_process(run.program, process)
-    return is_clean_after(run.moves_of(process))
+    return is_clean_in(pose_of(run), run.program.processes.index(process))
 
 
 def piece_at(run, index):

@@ -1,33 +1,10 @@
 """Pieces: what the steps of a run are between two places, and the arrows between them."""
 
 
-def ends_at_place(move, clean):
-    """Whether a place is behind the move, made by a process that was clean, or not, ahead of it."""
-    return move[4] == "save" or (move[4] == "note" and clean)
-
-
-def is_clean_behind(move, clean):
-    """Whether the process is clean behind the move."""
-    return ends_at_place(move, clean) or (clean and move[0] != "take")
-
-
-def is_clean_after(moves):
-    """Whether a process that has made these moves is clean."""
-    clean = True
-    for move in moves:
-        clean = is_clean_behind(move, clean)
-    return clean
-
-
 def places_of(run, process):
     """The ascending list of the places of the process."""
-    found = [0]
-    clean = True
-    for number, move in enumerate(run.moves_of(process)):
-        if ends_at_place(move, clean):
-            found.append(number + 1)
-        clean = is_clean_behind(move, clean)
-    return found
+    code = run.program.processes.index(process)
+    return [0] + [own + 1 for turn, _, own, placed, _, _ in run.beats if placed and turn.process == code]
 
 
 def open_piece(run, process):
@@ -37,19 +14,22 @@ def open_piece(run, process):
 
 def piece_list(run):
     """For each step of the run the piece in which it lies, None for a vanishing."""
-    pieces = [None] * len(run)
-    for process in run.program.processes:
-        own = run.own(process)
-        begins = places_of(run, process)
-        for place, later in zip(begins, begins[1:] + [len(own)]):
-            for at in own[place:later]:
-                pieces[at] = (process, place)
+    names = run.program.processes
+    newest = [(name, 0) for name in names]
+    pieces = []
+    for turn, _, own, placed, _, _ in run.beats:
+        process = turn.process
+        pieces.append(None if process is None else newest[process])
+        if placed:
+            newest[process] = (names[process], own + 1)
     return pieces
 
 
 def taken_letters(run, kind):
     """The pairs (sent, taken) of the indices of steps for all letters of this kind that are taken."""
-    return [(sent, gone) for sent, gone in run.letters(kind) if gone is not None and run[gone][0] != kind]
+    number = run.program.kinds.index(kind)
+    return [(sent, at) for at, (turn, sent, _, _, _, _) in enumerate(run.beats)
+            if turn.act == "take" and turn.kind == number]
 
 
 def arrow_table(run):
@@ -61,10 +41,10 @@ def arrow_table(run):
             table[process, place] = {(process, later): True}
         table[process, begins[-1]] = {}
     pieces = piece_list(run)
-    for kind in run.program.kinds:
-        for sent, taken in taken_letters(run, kind):
+    for taken, (turn, sent, _, _, _, _) in enumerate(run.beats):
+        if turn.act == "take":
             table[pieces[sent]][pieces[taken]] = True
-            if run.program[kind][3]:
+            if turn.sure:
                 table[pieces[taken]][pieces[sent]] = True
     return table
 

@@ -1,9 +1,9 @@
 """Runs: what the processes of a program do, step by step."""
 
 from fallsback.base.programs import check_kind, check_process, check_program
+from fallsback.base.turns import first_pose, is_placed, pose_behind, state_in, turn_at, turns_at
 from fallsback.base.words import is_below
 from fallsback.errors import InvalidNumber, InvalidOperation, InvalidRun
-from fallsback.run.moments import is_possible, possible_steps
 
 _MOST_LISTED = 12
 
@@ -22,58 +22,71 @@ def run_of(program, steps):
         return None
 
 
-def _filled(lanes):
-    """The numbers of letters in the lanes."""
-    return {kind: len(lane) for kind, lane in lanes.items()}
+def pose_of(run):
+    """The pose behind the run."""
+    pose, _ = _end_of(run.program, run.beats)
+    return pose
 
 
-def _many_letters(lanes):
-    """The number of all letters in lanes."""
-    return sum([len(lane) for lane in lanes.values()])
+def _end_of(program, beats):
+    """The pose behind the beats, and for each kind the indices of the steps that sent the letters in its lane."""
+    if beats:
+        return beats[-1][4], beats[-1][5]
+    return first_pose(program.processes), ((),) * len(program.kinds)
 
 
-def _without(lane, position):
-    """The letter at this position, and the lane without it."""
-    return lane[position], lane[:position] + lane[position + 1:]
-
-
-def _played(program, steps):
-    """What the steps come to: states, lanes, and for each step its move and the send of the letter that it ends.
-
-    The move of a vanishing is None, and so is the send where no letter is taken or vanishes.
-    """
-    states = dict([(name, 0) for name in program.processes])
-    lanes = dict([(kind, ()) for kind in program.kinds])
-    moves = []
-    sends = []
-    for at, step in enumerate(steps):
-        if not is_possible(program, states, _filled(lanes), step):
+def _played(program, beats, counts, steps):
+    """The list of the beats of these steps behind the earlier ones, and the numbers of the steps of each process."""
+    pose, lanes = _end_of(program, beats)
+    numbers = list(counts)
+    found = []
+    for at, step in enumerate(steps, start=len(beats)):
+        turn = turn_at(program.turns, pose, step)
+        if turn is None:
             raise InvalidRun(at)
-        name, number = step
-        move, sent = None, None
-        if name in lanes:
-            sent, lanes[name] = _without(lanes[name], number)
-        else:
-            move = program[name][states[name], number]
-            act, kind, target, _, _ = move
-            states[name] = target
-            if act == "send":
-                lanes[kind] = lanes[kind] + (at,)
-            elif act == "take":
-                sent, lanes[kind] = _without(lanes[kind], 0)
-        moves.append(move)
-        sends.append(sent)
-    return states, lanes, moves, sends
+        placed = is_placed(pose, turn)
+        sent, own = None, None
+        if turn.act is not None:
+            sent, lanes = _handed_on(lanes, turn, at)
+        if turn.process is not None:
+            own = numbers[turn.process]
+            numbers[turn.process] = own + 1
+        pose = pose_behind(pose, turn, placed)
+        found.append((turn, sent, own, placed, pose, lanes))
+    return found, numbers
+
+
+def _handed_on(lanes, turn, at):
+    """The step that sent the letter that this step takes or lets vanish, or None, and the lanes behind this step."""
+    number, position = turn.kind, turn.position
+    lane = lanes[number]
+    if turn.act == "send":
+        return None, lanes[:number] + (lane + (at,),) + lanes[number + 1:]
+    return lane[position], lanes[:number] + (lane[:position] + lane[position + 1:],) + lanes[number + 1:]
+
+
+def _many_letters(program, beats):
+    """The number of all letters in lanes behind the beats."""
+    _, lanes = _end_of(program, beats)
+    return sum([len(lane) for lane in lanes])
 
 
 class Run:
-    """Steps of a program, each of which is possible behind the earlier ones."""
+    """Steps of a program, each of which is possible behind the earlier ones.
+
+    `beats` has for each step a tuple (turn, sent, own, placed, pose, lanes): what it does; the step that sent the
+    letter that it takes or lets vanish; how many steps its process has made ahead of it; whether a place is behind it;
+    the pose and the lanes behind it. What does not apply is None.
+    """
 
     def __init__(self, program, *steps):
         check_program(program)
         self._program = program
         self._steps = steps
-        self._states, self._lanes, self._moves, self._sends = _played(program, steps)
+        beats, self._counts = _played(program, (), [0] * len(program), steps)
+        self.beats = tuple(beats)
+        # What has been found out about the run, by names. No answer depends on what is known already.
+        self.known = {}
 
     @classmethod
     def of(cls, program, steps):
@@ -96,17 +109,20 @@ class Run:
     @property
     def states(self):
         """The dict from the processes to their states behind the run."""
-        return dict(self._states)
+        pose, _ = _end_of(self._program, self.beats)
+        return {name: state_in(pose, code) for code, name in enumerate(self._program.processes)}
 
     @property
     def lanes(self):
         """The dict from the kinds to the indices of the steps that sent the letters in their lanes."""
-        return dict(self._lanes)
+        _, lanes = _end_of(self._program, self.beats)
+        return dict(zip(self._program.kinds, lanes))
 
     @property
     def possible(self):
         """The ascending tuple of the steps that can come next."""
-        return tuple(possible_steps(self._program, self._states, _filled(self._lanes)))
+        pose, _ = _end_of(self._program, self.beats)
+        return tuple([turn.step for turn in turns_at(self._program.turns, pose)])
 
     def own(self, process):
         """The ascending tuple of the indices of the steps of this process."""
@@ -116,23 +132,34 @@ class Run:
     def letters(self, kind):
         """The pairs (sent, gone) of the steps that sent each letter and took it or let it vanish, or None."""
         check_kind(self._program, kind)
-        gone = {sent: at for at, sent in enumerate(self._sends) if sent is not None}
-        return tuple([(at, gone.get(at)) for at, move in enumerate(self._moves)
-                      if move is not None and move[:2] == ("send", kind)])
+        gone = {beat[1]: at for at, beat in enumerate(self.beats) if beat[1] is not None}
+        return tuple([(at, gone.get(at)) for at, (turn, _, _, _, _, _) in enumerate(self.beats)
+                      if turn.act == "send" and turn.move[1] == kind])
 
     def moves_of(self, process):
         """The tuple of the moves of the steps of this process."""
-        return tuple([self._moves[at] for at in self.own(process)])
+        return tuple([self.beats[at][0].move for at in self.own(process)])
 
     def longer(self, *steps):
         """The run with these steps behind."""
-        return Run(self._program, *self._steps, *steps)
+        beats, counts = _played(self._program, self.beats, self._counts, steps)
+        later = Run(self._program)
+        later._steps, later._counts = self._steps + steps, counts
+        later.beats = self.beats + tuple(beats)
+        return later
 
     def first(self, many):
         """The run with its first steps only."""
         if not is_below(many, len(self._steps) + 1):
             raise InvalidNumber(many)
-        return Run.of(self._program, self._steps[:many])
+        counts = list(self._counts)
+        for turn, _, _, _, _, _ in self.beats[many:]:
+            if turn.process is not None:
+                counts[turn.process] -= 1
+        earlier = Run(self._program)
+        earlier._steps, earlier._counts = self._steps[:many], counts
+        earlier.beats = self.beats[:many]
+        return earlier
 
     def __add__(self, other):
         if not isinstance(other, Run) or self._program != other._program:
@@ -154,7 +181,7 @@ class Run:
         return isinstance(other, Run) and self._program == other._program and self._steps == other._steps
 
     def __str__(self):
-        return f"run of {len(self._steps)} steps, {_many_letters(self._lanes)} letters under way"
+        return f"run of {len(self._steps)} steps, {_many_letters(self._program, self.beats)} letters under way"
 
 
 def each_run(program, many):

@@ -1,0 +1,1 @@
+"""A desk that runs a program."""

@@ -1,0 +1,1 @@
+"""What can still be thrown back, and useless places."""

@@ -1,0 +1,1 @@
+"""Further keepings, editions and rules."""
