@@ -1,12 +1,12 @@
 """A desk: it runs a program, keeps the places that are needed, and holds outputs back until they are settled."""
 
-from fallsback.base.programs import check_process, check_program
+from fallsback.base.programs import check_failed, check_process, check_program
 from fallsback.base.turns import turn_at
 from fallsback.base.words import is_integer
 from fallsback.errors import InvalidNumber, Needed, NothingToUndo
 from fallsback.later.outputs import needed
-from fallsback.run.histories import behind_failure
-from fallsback.run.lines import fall_line, lost
+from fallsback.run.histories import run_left
+from fallsback.run.pieces import fall_of
 from fallsback.run.runs import Run, pose_of
 
 
@@ -112,9 +112,10 @@ class Desk:
 
     def fail(self, *failed):
         """Lets these processes fail at once, and returns the run that is left."""
+        check_failed(self._program, failed)
         page = self._page
-        left = behind_failure(page.left, *failed)
-        line, fall = fall_line(page.left, *failed), lost(page.left, *failed)
+        line, back, fall = fall_of(page.left, failed)
+        left = run_left(page.left, back)
         names = self._program.processes
         stored = [[place for place in places if place <= line[name]] for name, places in zip(names, page.stored)]
         paid = [cost + fall[name] for name, cost in zip(names, page.paid)]

@@ -3,7 +3,7 @@
 from fallsback.base.programs import check_program, is_mark
 from fallsback.base.words import KEEPINGS, is_integer
 from fallsback.errors import InvalidNumber, InvalidOperation, TooMany
-from fallsback.rows.losses import losses
+from fallsback.rows.losses import entries_of
 from fallsback.rows.standings import full_atlas
 
 MAX_MARKS = 6
@@ -15,9 +15,7 @@ def is_bounded(program, limit=None):
     """
     check_program(program)
     _check_limit(limit)
-    found = losses(program)
-    every = [loss for failed in found for loss in list(found[failed].values())]
-    return None not in every and (limit is None or max(every) <= limit)
+    return _is_within(program, limit)
 
 
 def least_marks(program, marks, limit=None):
@@ -41,6 +39,18 @@ def short_marks(program, marks, limit=None):
 def is_greater_keeping(one, other):
     """Whether the one keeping is greater than the other one."""
     return KEEPINGS.index(one) > KEEPINGS.index(other)
+
+
+def _is_within(program, limit):
+    """Whether all losses are bounded, and none is greater than the limit, if there is one."""
+    atlas = full_atlas(program)
+    many = len(program)
+    for process in range(many):
+        entries = entries_of(atlas, process)
+        found = [entries.greatest(holder) for holder in range(many)]
+        if None in found or (limit is not None and max(found) > limit):
+            return False
+    return True
 
 
 def _check_limit(limit):
@@ -69,6 +79,7 @@ def _is_further(program, value):
 
 def _are_enough(program, marks, limit):
     """For each set of the marks whether it is enough; its number has a bit for each mark."""
+    whole = _is_within(program.with_keeping(*marks), limit)
     found = []
     for picked in range(1 << len(marks)):
         chosen = _chosen(marks, picked)
@@ -76,7 +87,8 @@ def _are_enough(program, marks, limit):
         # Looked for in any case: a set can have too many standings though one in it is enough.
         full_atlas(marked)
         smaller = [found[picked - (1 << number)] for number in range(len(marks)) if picked >> number & 1]
-        found.append(any(smaller) or is_bounded(marked, limit))
+        # What the set of all marks does not bound, none of them does.
+        found.append(whole and (any(smaller) or _is_within(marked, limit)))
     return found
 
 

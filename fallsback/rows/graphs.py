@@ -76,8 +76,8 @@ def groups_of(links):
 
 def _newest_behind(links, node, at, times, earliest):
     """The next node to which the node has a link and that was not found yet, or None."""
-    row = links[node]
-    for number in range(at[node], len(row)):
+    row, first = links[node], at[node]
+    for number in range(first, len(row)):
         other = row[number][0]
         if not times[other]:
             # The link is looked at once more when all is known about the other node.

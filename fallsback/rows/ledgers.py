@@ -7,7 +7,7 @@ from fallsback.errors import InvalidOperation, InvalidRun
 from fallsback.rows.spots import (
     bits, first_spot, holders_at, lanes_at, last_letter, names_in, row_in, slot_in, spot_behind, standing_at, states_at,
 )
-from fallsback.run.pieces import arrow_table, open_piece, piece_list, reached
+from fallsback.run.pieces import chart_of, reached
 from fallsback.run.runs import check_run
 
 
@@ -21,11 +21,12 @@ def holders(run):
 def rows_of(run):
     """The dict from the holders behind a run to their rows, by its pieces and arrows."""
     check_run(run)
-    table, pieces = arrow_table(run), piece_list(run)
+    table, pieces, newest = chart_of(run)
+    names = run.program.processes
     sent = _letters_under_way(run)
     rows = {}
     for holder in holders(run):
-        piece = open_piece(run, holder) if holder in run.program.processes else pieces[sent[holder]]
+        piece = newest[names.index(holder)] if holder in names else pieces[sent[holder]]
         found = reached(table, [piece])
         letters = [letter for letter in sent if pieces[sent[letter]] in found]
         rows[holder] = (_prices_in(run, pieces, found), tuple(letters))
@@ -39,10 +40,10 @@ def _letters_under_way(run):
 
 def _prices_in(run, pieces, found):
     """The dict from the processes of the found pieces to the sums of the prices of the steps in these."""
-    prices = {}
-    for name in sorted({process for process, _ in found}):
-        steps = list(zip(run.own(name), run.moves_of(name)))
-        prices[name] = sum([move[3] for at, move in steps if pieces[at] in found])
+    prices = {name: 0 for name in sorted({process for process, _ in found})}
+    for piece, (turn, _, _, _, _, _) in zip(pieces, run.beats):
+        if piece in found:
+            prices[piece[0]] += turn.price
     return prices
 
 

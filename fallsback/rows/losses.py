@@ -1,7 +1,7 @@
 """Greatest losses: how much a failure of one process can cost another one, in any run."""
 
 from fallsback.base.programs import check_process, check_program
-from fallsback.base.turns import is_placed
+from fallsback.base.turns import CODES, is_placed
 from fallsback.base.words import is_integer
 from fallsback.rows.graphs import greatest_prices, groups_of, marked, numbers_in, shortest_path, turned
 from fallsback.rows.spots import bits, first_spot, mask_behind, slot_in, spot_behind
@@ -14,14 +14,18 @@ class Entries:
     """The entries of all standings with one process, numbered from 0 on.
 
     `pairs` has for each entry the pair (number of the standing, code of the holder), and `numbers` the number for each
-    pair. `links` has the steps that lead them, `groups` the entries that lead to one another, and `prices` for each the
-    greatest price of the steps that lead to it, None if there is none.
+    pair. `held` has for each holder the list of its entries. `links` has the steps that lead them, `groups` the entries
+    that lead to one another, and `prices` for each the greatest price of the steps that lead to it, None if there is
+    none.
     """
 
     def __init__(self, atlas, process):
         self.pairs = [(number, code) for number, (_, grid) in enumerate(atlas.spots)
                       for code in bits(slot_in(grid, process))]
         self.numbers = {pair: entry for entry, pair in enumerate(self.pairs)}
+        self.held = [[] for _ in range(CODES)]
+        for entry, (_, code) in enumerate(self.pairs):
+            self.held[code].append(entry)
         self.links = [[] for _ in self.pairs]
         for number, ways in enumerate(atlas.ways):
             pose, grid = atlas.spots[number]
@@ -36,13 +40,9 @@ class Entries:
         self.groups = groups_of(self.links)
         self.prices = greatest_prices(self.links, self.groups)
 
-    def of_holder(self, holder):
-        """The list of the entries of the holder with this code."""
-        return [entry for entry, (_, code) in enumerate(self.pairs) if code == holder]
-
     def greatest(self, holder):
         """The greatest price at the entries of this holder, 0 if it has none, None if there is no greatest one."""
-        found = [self.prices[entry] for entry in self.of_holder(holder)]
+        found = [self.prices[entry] for entry in self.held[holder]]
         return None if None in found else max(found, default=0)
 
 
@@ -75,7 +75,7 @@ def loss_paper(program, failed, process):
     atlas = full_atlas(program)
     entries = entries_of(atlas, program.processes.index(process))
     holder = program.processes.index(failed)
-    leading = marked(turned(entries.links), entries.of_holder(holder))
+    leading = marked(turned(entries.links), entries.held[holder])
     if entries.greatest(holder) is None:
         return _far_paper(program, atlas, entries, leading, holder)
     steps = _dear_steps(atlas, entries, leading, holder)
@@ -110,7 +110,7 @@ def _near_table(program, atlas, entries, leading, process):
 def _dear_steps(atlas, entries, leading, holder):
     """The steps of a run behind which the price of one of the dearest entries is as great as it can be."""
     prices, greatest = entries.prices, entries.greatest(holder)
-    dearest = {entry: True for entry in entries.of_holder(holder) if prices[entry] == greatest}
+    dearest = {entry: True for entry in entries.held[holder] if prices[entry] == greatest}
     if not dearest:
         return ()
     # Along links that leave nothing of the price out, the price of the run is that of the entry.
@@ -131,7 +131,7 @@ def _far_paper(program, atlas, entries, leading, holder):
     entry, other, step = dear[0]
     inner = [[link for link in row if group_of[link[0]] == group_of[entry]] for row in links]
     _, back = shortest_path(inner, [other], {entry: True})
-    _, last = shortest_path(links, [entry], {goal: True for goal in entries.of_holder(holder)})
+    _, last = shortest_path(links, [entry], {goal: True for goal in entries.held[holder]})
     number, code = entries.pairs[entry]
     return ("far", program.labels[code], atlas.steps_to(number), (step,) + back, last)
 
@@ -146,15 +146,15 @@ def _is_near(program, failed, process, table, steps):
         return False
     most = lost(run, failed)[process]
     code = program.processes.index(process)
-    for entry in entries_of(atlas, code).of_holder(program.processes.index(failed)):
-        number = given[code][entry]
+    for entry in entries_of(atlas, code).held[program.processes.index(failed)]:
+        number = given[code].get(entry)
         if number is None or number > most:
             return False
-    return all([_are_kept(entries_of(atlas, at).links, numbers) for at, numbers in enumerate(given)])
+    return all([_are_kept(entries_of(atlas, at).links, numbers) for at, numbers in enumerate(given) if numbers])
 
 
 def _given_numbers(program, atlas, table):
-    """For each process the list of the integers of all entries with it, None where the table has none.
+    """For each process the dict from the entries with it to their integers, without those that have none.
 
     It is None instead if the table has not the form. What is equal to a standing or an entry, but has another text, is
     none: True is not 1.
@@ -163,7 +163,7 @@ def _given_numbers(program, atlas, table):
         return None
     numbers = numbers_by_text(program, atlas)
     codes = {repr(label): code for code, label in enumerate(program.labels) if label is not None}
-    given = [[None] * len(entries_of(atlas, process).pairs) for process in range(len(program))]
+    given = [{} for _ in program.processes]
     for standing in table:
         number, row = numbers.get(repr(standing)), table[standing]
         if number is None or not isinstance(row, dict):
@@ -187,8 +187,10 @@ def _entry_told(program, atlas, number, codes, pair):
 def _are_kept(links, numbers):
     """Whether the integers behind each step are at least those of the entries that it leads, with its price."""
     for entry, row in enumerate(links):
+        number = numbers.get(entry)
         for other, price, _ in row:
-            if numbers[other] is not None and (numbers[entry] is None or numbers[entry] + price > numbers[other]):
+            least = numbers.get(other)
+            if least is not None and (number is None or number + price > least):
                 return False
     return True
 

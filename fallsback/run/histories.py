@@ -3,7 +3,7 @@
 from fallsback.base.programs import check_failed, check_program
 from fallsback.base.words import is_below
 from fallsback.errors import InvalidNumber, InvalidOperation, InvalidRun
-from fallsback.run.lines import lost, thrown_back
+from fallsback.run.pieces import fall_of
 from fallsback.run.runs import Run, check_run
 
 
@@ -11,9 +11,15 @@ def behind_failure(run, *failed):
     """The run that is left if these processes fail."""
     check_run(run)
     check_failed(run.program, failed)
-    back = {at: True for at in thrown_back(run, *failed)}
+    _, back, _ = fall_of(run, failed)
+    return run_left(run, back)
+
+
+def run_left(run, thrown):
+    """The run that is left if the steps with these indices, a list, are thrown back."""
+    back = {at: True for at in thrown}
     # All steps ahead of the first one that is thrown back stay as they are.
-    first = min(back, default=len(run))
+    first = min(thrown, default=len(run))
     left = []
     for at, (turn, sent, _, _, _, _) in enumerate(run.beats[first:], start=first):
         if at not in back and sent not in back:
@@ -51,8 +57,8 @@ def _lived(run, events):
         if run is None:
             return None
         steps = []
-        fall = lost(run, *event)
-        run = behind_failure(run, *event)
+        _, back, fall = fall_of(run, event)
+        run = run_left(run, back)
         falls.append((at, run, fall))
     run = _gone_on(run, steps)
     return None if run is None else (run, falls)

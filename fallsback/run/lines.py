@@ -4,7 +4,7 @@ from fallsback.base.programs import check_apart, check_failed, check_process
 from fallsback.base.turns import is_clean_in
 from fallsback.base.words import is_below, is_integer
 from fallsback.errors import InvalidLine, InvalidNumber, InvalidOperation
-from fallsback.run.pieces import arrow_table, back_pieces, piece_list, places_of, reached, taken_letters
+from fallsback.run.pieces import arrow_table, fall_of, places_of, reached, taken_letters
 from fallsback.run.runs import check_run, pose_of
 
 
@@ -27,10 +27,11 @@ def piece_at(run, index):
     check_run(run)
     if not is_below(index, len(run)):
         raise InvalidNumber(index)
-    piece = piece_list(run)[index]
-    if piece is None:
+    turn, _, own, _, _, _ = run.beats[index]
+    if turn.process is None:
         raise InvalidOperation("a vanishing lies in no piece")
-    return piece
+    name = run.program.processes[turn.process]
+    return (name, max([place for place in places_of(run, name) if place <= own]))
 
 
 def is_line(run, value):
@@ -55,9 +56,7 @@ def fall_line(run, *failed):
     """The line to which all processes go back if these fail."""
     check_run(run)
     check_failed(run.program, failed)
-    line = {name: len(run.own(name)) for name in run.program.processes}
-    for name, place in back_pieces(run, failed):
-        line[name] = min(line[name], place)
+    line, _, _ = fall_of(run, failed)
     return line
 
 
@@ -65,14 +64,16 @@ def thrown_back(run, *failed):
     """The ascending tuple of the indices of the steps that are thrown back if these processes fail."""
     check_run(run)
     check_failed(run.program, failed)
-    back = back_pieces(run, failed)
-    return tuple([at for at, piece in enumerate(piece_list(run)) if piece in back])
+    _, back, _ = fall_of(run, failed)
+    return tuple(back)
 
 
 def lost(run, *failed):
     """The dict from all processes to their losses if these fail."""
-    line = fall_line(run, *failed)
-    return {name: sum([move[3] for move in run.moves_of(name)[line[name]:]]) for name in line}
+    check_run(run)
+    check_failed(run.program, failed)
+    _, _, paid = fall_of(run, failed)
+    return paid
 
 
 def each_sound(run, *failed):

@@ -7,22 +7,33 @@ def places_of(run, process):
     return [0] + [own + 1 for turn, _, own, placed, _, _ in run.beats if placed and turn.process == code]
 
 
-def open_piece(run, process):
-    """The piece from the last place of the process to the present."""
-    return (process, places_of(run, process)[-1])
-
-
-def piece_list(run):
-    """For each step of the run the piece in which it lies, None for a vanishing."""
+def chart_of(run):
+    """The dict from all pieces to dicts whose keys are the pieces to which arrows go from them; for each step the piece
+    in which it lies, None for a vanishing; and for each process its open piece.
+    """
     names = run.program.processes
     newest = [(name, 0) for name in names]
+    table = {piece: {} for piece in newest}
     pieces = []
-    for turn, _, own, placed, _, _ in run.beats:
-        process = turn.process
-        pieces.append(None if process is None else newest[process])
+    for turn, sent, own, placed, _, _ in run.beats:
+        piece = None if turn.process is None else newest[turn.process]
+        pieces.append(piece)
+        if turn.act == "take":
+            table[pieces[sent]][piece] = True
+            if turn.sure:
+                table[piece][pieces[sent]] = True
         if placed:
-            newest[process] = (names[process], own + 1)
-    return pieces
+            later = (names[turn.process], own + 1)
+            table[piece][later] = True
+            table[later] = {}
+            newest[turn.process] = later
+    return table, pieces, newest
+
+
+def arrow_table(run):
+    """The dict from all pieces to dicts whose keys are the pieces to which arrows go from them."""
+    table, _, _ = chart_of(run)
+    return table
 
 
 def taken_letters(run, kind):
@@ -30,23 +41,6 @@ def taken_letters(run, kind):
     number = run.program.kinds.index(kind)
     return [(sent, at) for at, (turn, sent, _, _, _, _) in enumerate(run.beats)
             if turn.act == "take" and turn.kind == number]
-
-
-def arrow_table(run):
-    """The dict from all pieces to dicts whose keys are the pieces to which arrows go from them."""
-    table = {}
-    for process in run.program.processes:
-        begins = places_of(run, process)
-        for place, later in zip(begins, begins[1:]):
-            table[process, place] = {(process, later): True}
-        table[process, begins[-1]] = {}
-    pieces = piece_list(run)
-    for taken, (turn, sent, _, _, _, _) in enumerate(run.beats):
-        if turn.act == "take":
-            table[pieces[sent]][pieces[taken]] = True
-            if turn.sure:
-                table[pieces[taken]][pieces[sent]] = True
-    return table
 
 
 def reached(table, starts):
@@ -62,6 +56,20 @@ def reached(table, starts):
     return found
 
 
-def back_pieces(run, failed):
-    """The dict whose keys are the pieces that are thrown back if these processes fail."""
-    return reached(arrow_table(run), [open_piece(run, process) for process in failed])
+def fall_of(run, failed):
+    """What a failure of these processes comes to: the fall line, the ascending list of the indices of the steps that
+    are thrown back, and the dict from all processes to their losses.
+    """
+    names = run.program.processes
+    table, _, newest = chart_of(run)
+    line = dict(zip(names, run.counts))
+    for name, place in reached(table, [newest[names.index(name)] for name in failed]):
+        line[name] = min(line[name], place)
+    cuts = [line[name] for name in names]
+    back = []
+    paid = [0] * len(names)
+    for at, (turn, _, own, _, _, _) in enumerate(run.beats):
+        if own is not None and own >= cuts[turn.process]:
+            back.append(at)
+            paid[turn.process] += turn.price
+    return line, back, dict(zip(names, paid))

@@ -76,14 +76,14 @@ class Run:
 
     `beats` has for each step a tuple (turn, sent, own, placed, pose, lanes): what it does; the step that sent the
     letter that it takes or lets vanish; how many steps its process has made ahead of it; whether a place is behind it;
-    the pose and the lanes behind it. What does not apply is None.
+    the pose and the lanes behind it. What does not apply is None. `counts` has the number of steps of each process.
     """
 
     def __init__(self, program, *steps):
         check_program(program)
         self._program = program
         self._steps = steps
-        beats, self._counts = _played(program, (), [0] * len(program), steps)
+        beats, self.counts = _played(program, (), [0] * len(program), steps)
         self.beats = tuple(beats)
         # What has been found out about the run, by names. No answer depends on what is known already.
         self.known = {}
@@ -142,9 +142,9 @@ class Run:
 
     def longer(self, *steps):
         """The run with these steps behind."""
-        beats, counts = _played(self._program, self.beats, self._counts, steps)
+        beats, counts = _played(self._program, self.beats, self.counts, steps)
         later = Run(self._program)
-        later._steps, later._counts = self._steps + steps, counts
+        later._steps, later.counts = self._steps + steps, counts
         later.beats = self.beats + tuple(beats)
         return later
 
@@ -152,12 +152,12 @@ class Run:
         """The run with its first steps only."""
         if not is_below(many, len(self._steps) + 1):
             raise InvalidNumber(many)
-        counts = list(self._counts)
+        counts = list(self.counts)
         for turn, _, _, _, _, _ in self.beats[many:]:
             if turn.process is not None:
                 counts[turn.process] -= 1
         earlier = Run(self._program)
-        earlier._steps, earlier._counts = self._steps[:many], counts
+        earlier._steps, earlier.counts = self._steps[:many], counts
         earlier.beats = self.beats[:many]
         return earlier
 

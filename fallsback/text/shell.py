@@ -72,7 +72,8 @@ def _done(desk, words):
         desk.fail(*rest)
         return "done"
     if head == "lost":
-        return _listed([f"{name} {loss}" for name, loss in lost(desk.run, *rest).items()])
+        run = desk.run
+        return _listed([f"{name} {loss}" for name, loss in lost(run, *rest).items()])
     return _asked(desk, head, rest)
 
 

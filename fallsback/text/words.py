@@ -3,14 +3,14 @@
 from fallsback.base.words import is_integer, is_word
 
 _DIGITS = "0123456789"
+_MOST_DIGITS = 60
 
 
 def number_of(word):
     """The integer of at least 0 that the word is, or None."""
-    if word == "" or not all([digit in _DIGITS for digit in word]) or (word[0] == "0" and word != "0"):
+    if not 1 <= len(word) <= _MOST_DIGITS or not all([digit in _DIGITS for digit in word]):
         return None
-    number = int(word)
-    return number if is_integer(number) else None
+    return None if word[0] == "0" and word != "0" else int(word)
 
 
 def event_of(words):
