@@ -85,5 +85,35 @@ OVER = Program(
     {"k": ("a", "b", 1, True), "m": ("a", "b", 2, True), "n": ("c", "d", 1, True)},
 )
 
+# Programs with 40 and 50 layouts behind the run without steps, which side by side have just 2000.
+LATER = Program(
+    {
+        "a": Machine(
+            (("send", "m", 0, 1, None), ("send", "m", 2, 0, None)),
+            (("work", None, 2, 9, None),),
+            (("work", None, 1, 1, "save"), ("send", "m", 2, 1, None)),
+        ),
+        "d": Machine(
+            (("work", None, 2, 0, None), ("take", "m", 0, 1, "save")),
+            (("take", "m", 2, 1, "note"),),
+            (("take", "m", 0, 0, "save"), ("output", None, 2, 9, None)),
+        ),
+    },
+    {"m": ("a", "d", 1, True)},
+) | Program(
+    {
+        "b": Machine(
+            (("send", "l", 0, 1, None), ("send", "l", 2, 0, None)),
+            (("send", "l", 2, 1, None),),
+            (("take", "k", 0, 1, "note"),),
+        ),
+        "c": Machine(
+            (("send", "k", 1, 2, "save"), ("output", None, 0, 1, None)),
+            (("send", "k", 1, 1, "save"), ("take", "l", 1, 1, "save")),
+        ),
+    },
+    {"k": ("c", "b", 1, True), "l": ("b", "c", 1, True)},
+)
+
 NAMES = {"TALK": TALK, "CALM": CALM, "ONCE": ONCE, "Machine": Machine, "Program": Program}
 EVERY_PROGRAM = (TALK, CALM, ONCE, LOSSY, RING, ALONE)

@@ -6,7 +6,8 @@ from unittest import mock
 
 from fallsback.base.programs import Program
 from fallsback.errors import TooMany
-from fallsback.later.outputs import needed, recall, unsettling
+from fallsback.later import outputs as outputs_module
+from fallsback.later.outputs import is_settled, needed, recall, unsettling
 from fallsback.later.useless import useless_run
 from fallsback.plan.marks import is_bounded
 from fallsback.rows import losses as losses_module
@@ -15,12 +16,12 @@ from fallsback.rows.ledgers import Ledger
 from fallsback.rows.losses import greatest_loss, is_loss_paper, loss_paper, losses
 from fallsback.rows.standings import is_touch_paper, run_to, standing_of, standings, steps_at, touch_paper, touches
 from fallsback.run import runs as runs_module
-from fallsback.run.histories import History
+from fallsback.run.histories import History, behind_failure
 from fallsback.run.lines import arrows, places
 from fallsback.run.runs import Run, each_run
 from tests.cases import ErrorCase
 from tests.drawn import draw_history, draw_run, draws, small_draws
-from tests.samples import EVERY_PROGRAM, LOSSY, OVER, TALK
+from tests.samples import EVERY_PROGRAM, FULL, LATER, LOSSY, OVER, TALK
 
 
 def fresh(program):
@@ -109,6 +110,41 @@ class Again(ErrorCase):
             for at, step in enumerate(run):
                 if step[0] in program.processes:
                     self.assertEqual(unsettling(run, at), unsettling(Run(program, *run), at))
+
+
+    def test_needed_places_behind_longer_runs(self):
+        for rng, program, _ in small_draws(20, seed=125):
+            known, run = fresh(program), Run(fresh(program))
+            for _ in range(8):
+                run = Run(known, *run)
+                other = Run(fresh(program), *run)
+                self.assertEqual(needed(run), needed(other))
+                for at, step in enumerate(run):
+                    if step[0] in program.processes:
+                        self.assertEqual(is_settled(run, at), is_settled(other, at))
+                for name in program.processes:
+                    for place in places(run, name):
+                        # Any events would do, but equal calls return equal ones.
+                        self.assertEqual(recall(run, name, place), recall(other, name, place))
+                failed = rng.choice(program.processes)
+                run = run.longer(rng.choice(run.possible)) if run.possible else behind_failure(run, failed)
+
+    def test_layouts_are_looked_for_once(self):
+        program = fresh(LATER)
+        expected = needed(Run(program))
+        with mock.patch.object(outputs_module, "Outlook", side_effect=AssertionError):
+            for run in list(each_run(program, 2)):
+                self.assertEqual(list(needed(run)), list(expected))
+            self.assertRaises(AssertionError, lambda: needed(Run(fresh(LATER))))
+
+    def test_too_many_layouts_stay_too_many(self):
+        program = fresh(FULL)
+        run = Run(program, ("a", 1))
+        for _ in range(2):
+            self.assert_raises(TooMany(2000), lambda: needed(run))
+            self.assert_raises(TooMany(2000), lambda: needed(Run(program, ("a", 1))))
+            self.assert_raises(TooMany(2000), lambda: recall(run, "a", 0))
+            self.assert_raises(TooMany(2000), lambda: is_settled(run, 0))
 
 
 class GoneOn(ErrorCase):

@@ -185,7 +185,11 @@ class Histories(ErrorCase):
             first = history.first(many)
             self.assertEqual(first, History(program, *events[:many]))
             self.assertEqual(first.longer(*events[many:]), history)
-            self.assertEqual(first.longer(*events[many:]).run, run)
+            longer = first.longer(*events[many:])
+            self.assertEqual(longer.run, run)
+            for less in range(len(events) + 1):
+                self.assertEqual([longer.first(less).run, longer.first(less).falls],
+                                 [History(program, *events[:less]).run, History(program, *events[:less]).falls])
             self.assertEqual(first.events, events[:many])
 
     def test_falls_are_losses_of_the_run_ahead(self):

@@ -198,6 +198,19 @@ class Ledgers(ErrorCase):
             self.assert_equal(ledger, value, False)
         self.assert_equal(Ledger(TALK), Ledger(TALK), True)
 
+    def test_comparing_drawn_ledgers(self):
+        found = {True: 0, False: 0}
+        for rng, drawn in draws(30, seed=18):
+            program = drawn.priced(0) if rng.random() < 0.5 else drawn
+            ledgers = [Ledger.of(draw_run(rng, program, rng.randint(0, 8))) for _ in range(14)]
+            told = [repr((one.states, one.lanes, one.standing, one.rows)) for one in ledgers]
+            for at, one in enumerate(ledgers):
+                for number, other in enumerate(ledgers):
+                    expected = told[at] == told[number]
+                    self.assert_equal(one, other, expected)
+                    found[expected and len(one) != len(other)] += 1
+        self.assertGreater(min(found.values()), 30)
+
     def test_the_number_of_steps_does_not_count(self):
         saving = LOSSY.with_keeping(("s", 0, 1, "save"))
         one, other = Ledger.of(Run(saving, ("s", 1))), Ledger.of(Run(saving, ("s", 1), ("s", 1)))

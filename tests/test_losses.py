@@ -203,11 +203,16 @@ class Judging(ErrorCase):
             yield {list(here)[0] if key == here else key: row for key, row in table.items()}
             yield {**table, here: list(table[here].items())}
             yield {**table, here: {**table[here], ("z", "a"): 0}}
+            yield {**table, here: {**table[here], 0: 0}}
+            yield {**table, here: {**table[here], None: 0}}
             for entry in slow.entries(here):
                 right = table[here].get(entry)
                 yield self.changed(table, here, entry, None)
                 for number in (0, 1, 10 ** 60 - 1, 10 ** 60, -1, True, False, "0", ()):
                     yield self.changed(table, here, entry, number)
+                # A string of two letters looks like a pair of one-letter names.
+                if isinstance(entry[0], str):
+                    yield self.changed(self.changed(table, here, entry, None), here, "".join(entry), right or 0)
                 if right is not None:
                     yield self.changed(table, here, entry, right + 1)
                     yield self.changed(table, here, entry, right - 1)

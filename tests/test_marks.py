@@ -193,6 +193,16 @@ class Errors(ErrorCase):
         for call in BOTH:
             self.assert_raises(TooMany(2000), lambda: call(FULL, (found[0],)))
 
+    def test_one_of_the_sets_with_too_many_standings(self):
+        # Neither without marks nor with both of them there are too many; what is enough is known without the rest.
+        both = (("a", 0, 0, "save"), ("b", 0, 0, "save"))
+        for program in (FULL, FULL.priced(0)):
+            found = [self.has_too_many(program.with_keeping(*marks)) for marks in ((), both[:1], both[1:], both)]
+            self.assertEqual(found, [False, True, False, False])
+            for call in BOTH:
+                self.assert_raises(TooMany(2000), lambda: call(program, both))
+                self.assert_raises(TooMany(2000), lambda: call(program, both, 3))
+
     def every_mark(self, program):
         for name in program.processes:
             for state, number, move in program[name].moves():

@@ -1,6 +1,8 @@
 import copy
 import unittest
 
+from fallsback.base.machines import Machine
+from fallsback.base.programs import Program
 from fallsback.errors import InvalidNumber, InvalidRun, TooMany, UnknownName
 from fallsback.later import outputs as module
 from fallsback.later.layouts import Outlook
@@ -16,7 +18,7 @@ from tests import slow, slow_later
 from tests.cases import ErrorCase
 from tests.drawn import draw_history, draw_run, draws
 from tests.examples import run_examples
-from tests.samples import ALONE, CALM, EVERY_PROGRAM, FULL, LOSSY, NAMES, ONCE, RING, TALK
+from tests.samples import ALONE, CALM, EVERY_PROGRAM, FULL, LATER, LOSSY, NAMES, ONCE, RING, TALK
 from tests.values import EVERY, without
 
 EXAMPLE = """
@@ -144,6 +146,15 @@ class Needed(ErrorCase):
             for name in program.processes:
                 self.assertLessEqual(set(found[name]), set(held(run)[name]))
                 self.assertLessEqual(set(targets(run)[name]), set(found[name]))
+
+    def test_a_needed_place_ahead_of_one_that_is_not(self):
+        # Nobody takes z, so no failure leads to the place 1, but that of q leads behind it.
+        stuck = Machine((("send", "m", 1, 1, "save"),), (("send", "z", 2, 1, "save"),), ())
+        program = Program({"p": stuck, "q": Machine((("take", "m", 0, 1, None),))},
+                          {"m": ("p", "q", 1, True), "z": ("p", "q", 1, True)})
+        run = Run(program, ("p", 0), ("q", 0), ("p", 0))
+        self.assertEqual([held(run)["p"], needed(run)["p"]], [(0, 1, 2), (0, 2)])
+        self.assertEqual([recall(run, "p", 1), is_settled(run, 2), unsettling(run, 2)], [None, False, (("q",),)])
 
     def test_what_is_not_true(self):
         # No failure leads to the first place of p now, but a letter under way can still lead there.
@@ -298,6 +309,12 @@ class TooManyLayouts(ErrorCase):
         self.assertEqual(len(Outlook(RING, Walk(run).scene, many).layouts), many)
         self.assertEqual(len(Outlook(RING, Walk(run).scene, many - 1).layouts), many)
         self.assertLess(many, 2000)
+
+    def test_just_2000(self):
+        run = Run(LATER)
+        self.assertEqual(len(Outlook(LATER, Walk(run).scene, 2000).layouts), 2000)
+        self.assertEqual(needed(run), {name: (0,) for name in LATER.processes})
+        self.assertEqual(recall(run, "b", 0), (("b",),))
 
 
 class Errors(ErrorCase):

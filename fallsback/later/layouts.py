@@ -8,7 +8,7 @@ from fallsback.later.scenes import scene_behind, scene_left
 
 
 class Outlook:
-    """The layouts behind a run, its own one first, and the events that recall the places at which rows begin there.
+    """The layouts behind a run, its own one first, and what can come next at each of them.
 
     `layouts` has the layouts, and `ways` for each the list of triples (event, number, olds) of what can come next: the
     number of the layout behind it, and for each process the tuple of the numbers that its levels had ahead of it, None
@@ -16,14 +16,14 @@ class Outlook:
     """
 
     def __init__(self, program, scene, most):
-        self.layouts = [_untagged(scene)]
+        self.layouts = [layout_of(scene)]
         self.ways = []
         numbers = {self.layouts[0]: 0}
         while len(self.ways) < len(self.layouts) <= most:
             here = self.layouts[len(self.ways)]
             ways = []
             for event, later in _scenes_behind(program, _tagged(here)):
-                layout = _untagged(later)
+                layout = layout_of(later)
                 if layout not in numbers:
                     numbers[layout] = len(self.layouts)
                     self.layouts.append(layout)
@@ -31,17 +31,23 @@ class Outlook:
                 ways.append((event, numbers[layout], olds))
             self.ways.append(ways)
 
-    def recalls(self, program):
-        """For each process the list of the events that recall the places of its levels in the first layout.
 
-        The events are a tuple, whose last one is a failure of one process, or None if the place is not needed.
-        """
-        nexts = _nexts_to_failures(program, self)
-        return [[_events_from(nexts, (0, process, number)) for number in range(len(rows))]
-                for process, rows in enumerate(self.layouts[0][2])]
+def recalls_of(nexts, layout):
+    """For each process the list of the events that recall the places of its levels in the layout, which is the first
+    one. The events are a tuple, whose last one is a failure of one process, or None if the place is not needed.
+    """
+    return [[_events_from(nexts, (0, process, number)) for number in range(len(rows))]
+            for process, rows in enumerate(layout[2])]
 
 
-def _untagged(scene):
+def needed_levels(nexts, layouts):
+    """The dict from the layouts to tuples that have for each process a tuple: which places of its levels are needed."""
+    return {layout: tuple([tuple([(here, process, number) in nexts for number in range(len(rows))])
+                           for process, rows in enumerate(layout[2])]) for here, layout in enumerate(layouts)}
+
+
+def layout_of(scene):
+    """The layout of a run with this scene."""
     pose, grid, levels = scene
     return pose, grid, tuple([tuple([(state, mask) for _, state, mask in rows]) for rows in levels])
 
@@ -59,7 +65,7 @@ def _scenes_behind(program, scene):
     return steps + [((name,), scene_left(scene, code)) for code, name in enumerate(program.processes)]
 
 
-def _nexts_to_failures(program, outlook):
+def nexts_to_failures(program, outlook):
     """For each (layout, process, level) whose place is needed the pair of the next event and what it comes to."""
     backward = {}
     for here, ways in enumerate(outlook.ways):

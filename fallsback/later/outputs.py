@@ -3,8 +3,8 @@
 from fallsback.base.programs import check_process
 from fallsback.base.words import is_below, is_integer
 from fallsback.errors import InvalidNumber, TooMany
-from fallsback.later.layouts import Outlook
-from fallsback.later.scenes import Walk, begins_of
+from fallsback.later.layouts import Outlook, layout_of, needed_levels, nexts_to_failures, recalls_of
+from fallsback.later.scenes import Walk, begins_of, scene_of
 from fallsback.run.histories import is_failure
 from fallsback.run.pieces import places_of
 from fallsback.run.runs import check_run
@@ -15,7 +15,7 @@ MAX_LAYOUTS = 2000
 def targets(run):
     """The dict from all processes to the places at which rows of processes begin."""
     check_run(run)
-    scene = Walk(run).scene
+    scene = scene_of(run)
     begins = [begins_of(scene, holder) for holder in range(len(run.program))]
     found = {}
     for process, name in enumerate(run.program.processes):
@@ -28,14 +28,16 @@ def held(run):
     """The dict from all processes to the places at which rows of any holders begin."""
     check_run(run)
     return {name: tuple([place for place, _, _ in rows])
-            for name, rows in zip(run.program.processes, Walk(run).scene[2])}
+            for name, rows in zip(run.program.processes, scene_of(run)[2])}
 
 
 def needed(run):
     """The dict from all processes to the ascending tuples of their needed places."""
     check_run(run)
-    recalls = _recalls(run)
-    return {name: tuple([place for place in recalls[name] if recalls[name][place] is not None]) for name in recalls}
+    scene = scene_of(run)
+    levels = _needed_levels(run, scene)
+    return {name: tuple([place for (place, _, _), must in zip(scene[2][process], levels[process]) if must])
+            for process, name in enumerate(run.program.processes)}
 
 
 def recall(run, process, place):
@@ -56,24 +58,28 @@ def is_recall(run, process, place, value):
 
 def is_settled(run, index):
     """Whether no events that follow throw the step with this index back."""
-    return unsettling(run, index) is None
+    process, own = _own_step(run, index)
+    return not any([place <= own for place in needed(run)[process]])
 
 
 def unsettling(run, index):
     """Any events that follow, the last one a failure of one process by which this step is thrown back, or None."""
     process, own = _own_step(run, index)
     recalls = _recalls(run)[process]
-    for place in recalls:
-        if place <= own and recalls[place] is not None:
-            return _until_thrown_back(run, process, own, recalls[place])
-    return None
+    found = [events for place, events in recalls.items() if place <= own and events is not None]
+    # No events ahead of the last one throw the step back: they would recall a later one of these places, or the same
+    # one sooner.
+    return found[-1] if found else None
 
 
 def is_unsettling(run, index, value):
     """Whether the value is a tuple of such events."""
     process, own = _own_step(run, index)
     falls = _falls(run, value, process)
-    return falls is not None and _first_below(falls, own) == len(falls) - 1
+    if falls is None or not _throws_back(falls[-1], own):
+        return False
+    # A step that is thrown back and made again is another one.
+    return not any([_throws_back(place, own) for place in falls[:-1]])
 
 
 def _check_place(run, process, place):
@@ -102,19 +108,41 @@ def _recalls(run):
 
 def _found_recalls(run):
     """The dict as above, or None if there are too many layouts."""
-    scene = Walk(run).scene
-    outlook = Outlook(run.program, scene, MAX_LAYOUTS)
+    program = run.program
+    scene = scene_of(run)
+    outlook = Outlook(program, scene, MAX_LAYOUTS)
     if len(outlook.layouts) > MAX_LAYOUTS:
         return None
-    recalls = outlook.recalls(run.program)
+    nexts = nexts_to_failures(program, outlook)
+    known = _known_levels(program)
+    for layout, levels in needed_levels(nexts, outlook.layouts).items():
+        known[layout] = levels
+    recalls = recalls_of(nexts, outlook.layouts[0])
     return {name: {place: events for (place, _, _), events in zip(rows, recalls[process])}
-            for process, (name, rows) in enumerate(zip(run.program.processes, scene[2]))}
+            for process, (name, rows) in enumerate(zip(program.processes, scene[2]))}
+
+
+def _known_levels(program):
+    """The dict from the layouts that were found so far to their needed levels.
+
+    Behind a run with one of them there are not too many layouts: they were among those behind another run.
+    """
+    return program.known.setdefault("levels", {})
+
+
+def _needed_levels(run, scene):
+    """For each process a tuple: which places of its levels in the scene behind the run are needed."""
+    layout = layout_of(scene)
+    if layout not in _known_levels(run.program):
+        # This finds out about all layouts behind the run at once.
+        _recalls(run)
+    return _known_levels(run.program)[layout]
 
 
 def _falls(run, value, process):
-    """For each of the events that follow the place to which it throws the process back, or None.
-
-    It is None instead if the value is no tuple of such events, the last one a failure of one process.
+    """For each failure among the events the place of the run to which it throws the process back, None if it throws it
+    back to no such place. It is None instead if the value is no tuple of events that follow, the last one a failure of
+    one process.
     """
     program = run.program
     if not isinstance(value, tuple) or not value or not is_failure(program, value[-1]) or len(value[-1]) != 1:
@@ -124,19 +152,11 @@ def _falls(run, value, process):
     for event in value:
         if is_failure(program, event):
             falls.append(walk.fall(event, process))
-        elif walk.follow(event):
-            falls.append(None)
-        else:
+        elif not walk.follow(event):
             return None
     return falls
 
 
-def _first_below(falls, own):
-    """The number of the first event that throws back a step ahead of which its process has made so many."""
-    found = [at for at, place in enumerate(falls) if place is not None and place <= own]
-    return found[0] if found else None
-
-
-def _until_thrown_back(run, process, own, events):
-    """The first ones of the events, up to the failure by which the step is thrown back."""
-    return events[:_first_below(_falls(run, events, process), own) + 1]
+def _throws_back(place, own):
+    """Whether a fall to this place, or to none, throws back a step ahead of which its process has made so many."""
+    return place is not None and place <= own

@@ -32,6 +32,16 @@ def scene_behind(scene, turn, tag):
     return later_pose, later_grid, tuple(found)
 
 
+def scene_of(run):
+    """The scene behind a run, with the places of the processes as tags."""
+    if "scene" not in run.known:
+        scene = first_scene(run.program)
+        for turn, _, own, _, _, _ in run.beats:
+            scene = scene_behind(scene, turn, None if own is None else own + 1)
+        run.known["scene"] = scene
+    return run.known["scene"]
+
+
 def _held(levels):
     """The tuple of those of the levels at whose places rows begin."""
     found = []
@@ -83,39 +93,32 @@ def _pose_at(pose, process, state):
 
 
 class Walk:
-    """Steps and failures that follow a run, one after the other, with the places of the processes as tags."""
+    """Steps and failures that follow a run, one after the other. The places that the run has are its tags."""
 
     def __init__(self, run):
         self.played = run.program
-        self.scene = first_scene(run.program)
-        self.counts = [0] * len(run.program)
-        for turn, _, _, _, _, _ in run.beats:
-            self._go(turn)
-
-    def _go(self, turn):
-        if turn.process is None:
-            self.scene = scene_behind(self.scene, turn, None)
-        else:
-            self.counts[turn.process] += 1
-            self.scene = scene_behind(self.scene, turn, self.counts[turn.process])
+        self.scene = scene_of(run)
 
     def follow(self, step):
         """Does the step and tells whether it is one and is possible."""
         turn = turn_at(self.played.turns, self.scene[0], step)
         if turn is not None:
-            self._go(turn)
+            self.scene = scene_behind(self.scene, turn, None)
         return turn is not None
 
     def fall(self, failed, process):
-        """Lets these processes fail, and tells the place to which this one is thrown back, or None."""
+        """Lets these processes fail, and tells the place of the run to which this one is thrown back.
+
+        It is None if the process is not thrown back, or to a place that was made since.
+        """
         names = self.played.processes
         own = names.index(process)
         place = None
         # Several processes at once leave what they leave one after the other.
         for name in failed:
-            begins = begins_of(self.scene, names.index(name))
-            for code, number in begins.items():
-                self.counts[code] = self.scene[2][code][number][0]
-            place = self.counts[own] if own in begins else place
-            self.scene = scene_left(self.scene, names.index(name))
+            code = names.index(name)
+            begins = begins_of(self.scene, code)
+            if own in begins:
+                place, _, _ = self.scene[2][own][begins[own]]
+            self.scene = scene_left(self.scene, code)
         return place

@@ -4,7 +4,7 @@ from fallsback.base.programs import are_alike
 from fallsback.base.words import is_below
 from fallsback.errors import InvalidOperation, TooMany
 from fallsback.plan.marks import is_greater_keeping
-from fallsback.plan.pairs import Pairs, Parting
+from fallsback.plan.pairs import Pairs
 from fallsback.run.lines import thrown_back
 from fallsback.run.runs import Run, run_of
 
@@ -24,11 +24,12 @@ def parting(one, other):
     pairs = Pairs(one, other, MAX_PAIRS)
     if len(pairs.spots) > MAX_PAIRS:
         raise TooMany(MAX_PAIRS)
-    found = Parting(pairs).found()
-    if found is None:
+    if pairs.lacking is None:
+        # Each piece by the one lies in a piece by the other, and so does all to which it leads.
         return None
-    steps, holder, index = found
-    return (steps, one.processes[holder], index)
+    # The failure of the process that makes the place throws back the step ahead of it where the place is lacking.
+    steps = pairs.steps_behind(pairs.lacking)
+    return (steps, steps[-1][0], len(steps) - 1)
 
 
 def is_parting(one, other, value):
