@@ -29,7 +29,7 @@ LISTS = ([], [0], [0, 0], ["work", None, 0, 0, None], ["a", 0], [[]])
 DICTS = ({}, {0: 0}, {"a": []}, {"a": 0, "b": 0}, {(0, 0): ()})
 OBJECTS = (
     Machine(()), InvalidNumber(0), TALK, Run(TALK), Run(TALK, ("a", 0)), History(TALK, ("a",)), Ledger(TALK),
-    Rule.each(("send", "ask")), Desk(TALK), Desk(TALK).trial(), Shell(write_program(TALK)),
+    Rule.each(("send", "ask")), Desk(TALK), Shell(write_program(TALK)),
 )
 
 OTHERS = TOO_LONG + TRUTHS + (None,) + TEXTS + TUPLES + LISTS + DICTS + OBJECTS

@@ -26,35 +26,20 @@ class Page:
 
 
 class Held:
-    """What a trial gives back at its end, and what it gave back to ahead of that if it was begun in itself."""
+    """What a desk has at the end of a block, and ahead of that what it has at the end of the block around it."""
 
-    def __init__(self, desk, outer):
-        self.pages = desk._pages
-        self.at = desk._at
-        self.page = desk._page
+    def __init__(self, pages, at, page, outer):
+        self.pages = pages
+        self.at = at
+        self.page = page
         self.outer = outer
 
 
-class Trial:
-    """A block at whose end the desk is as it was."""
-
-    def __init__(self, desk):
-        self._desk = desk
-        self._held = None
-
-    def __enter__(self):
-        self._held = Held(self._desk, self._held)
-        return self._desk
-
-    def __exit__(self, kind, value, trace):
-        self._desk._pages = self._held.pages
-        self._desk._at = self._held.at
-        self._desk._page = self._held.page
-        self._held = self._held.outer
-
-
 class Desk:
-    """A program that runs: steps are done, processes fail, places are thrown away, and outputs are released."""
+    """A program that runs: steps are done, processes fail, places are thrown away, and outputs are released.
+
+    A desk is its own block: what `with` begins ends with the desk as it was.
+    """
 
     def __init__(self, program):
         check_program(program)
@@ -63,6 +48,7 @@ class Desk:
         self._page = Page(Run(program), (), ((0,),) * many, (), (0,) * many)
         self._pages = (self._page,)
         self._at = 0
+        self._held = None
 
     @property
     def program(self):
@@ -164,7 +150,7 @@ class Desk:
 
     def trial(self):
         """A block at whose end the desk is as it was."""
-        return Trial(self)
+        return self
 
     def during(self, call):
         """What the call of the desk returns. The desk is as it was then."""
@@ -192,6 +178,16 @@ class Desk:
         self._at = at
         self._page = self._pages[at]
         return at
+
+    def __enter__(self):
+        self._held = Held(self._pages, self._at, self._page, self._held)
+        return self
+
+    def __exit__(self, kind, value, trace):
+        self._pages = self._held.pages
+        self._at = self._held.at
+        self._page = self._held.page
+        self._held = self._held.outer
 
     def __contains__(self, value):
         return turn_at(self._program.turns, pose_of(self._page.left), value) is not None
