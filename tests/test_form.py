@@ -15,10 +15,10 @@ CHANGING = "append clear extend insert pop remove reverse setdefault update add 
 
 
 class Code:
-    """All functions, methods and properties of the package, by their names."""
+    """All functions, methods and properties of the package, by their names, and the attributes that objects keep."""
 
     def __init__(self):
-        self.functions, self.methods, self.properties = {}, {}, {}
+        self.functions, self.methods, self.properties, self.attributes = {}, {}, {}, set()
         for folder, _, names in os.walk(FOLDER):
             for name in sorted(names):
                 if name.endswith(".py"):
@@ -26,6 +26,7 @@ class Code:
                         self.read(ast.parse(file.read()))
 
     def read(self, tree):
+        self.attributes |= attributes_of(tree)
         for node in tree.body:
             if isinstance(node, ast.FunctionDef):
                 self.functions.setdefault(node.name, []).append(node)
@@ -63,6 +64,17 @@ class Code:
                 found.append(function)
                 ahead += self.called(function)
         return found
+
+
+def attributes_of(tree):
+    """The names of the attributes that are assigned anywhere."""
+    return {node.attr for node in ast.walk(tree) if isinstance(node, ast.Attribute) and isinstance(node.ctx, ast.Store)}
+
+
+def calls_of(function, names):
+    """The calls of methods with these names: told by names alone, they can be calls of what an object keeps."""
+    return [ast.unparse(node) for node in ast.walk(function)
+            if isinstance(node, ast.Call) and isinstance(node.func, ast.Attribute) and node.func.attr in names]
 
 
 def targets_of(node):
@@ -111,6 +123,24 @@ class Form(unittest.TestCase):
         for start in starts:
             for function in code.run_by(start):
                 self.assertEqual(faults_of(function), [], f"{start.owner}.{start.name} runs {function.name}")
+
+    def test_properties_and_operators_call_nothing_that_objects_keep(self):
+        code = Code()
+        self.assertIn("index", code.attributes)
+        for start in code.starts():
+            for function in code.run_by(start):
+                found = calls_of(function, code.attributes)
+                self.assertEqual(found, [], f"{start.owner}.{start.name} runs {function.name}")
+
+    def test_calls_of_what_objects_keep_are_seen(self):
+        tree = ast.parse("class Wrong:\n    def f(self, a):\n        self.index = a\n        a.b.many += 1")
+        self.assertEqual(attributes_of(tree), {"index", "many"})
+        wrong = ("return a.index(1)", "return [name for name in list(a).index(a)]", "a.b.many()")
+        right = ("return a.index", "return a.find(1)", "a.many = 1", "return index(a)", "return a.index + a.get(1)")
+        for texts, expected in ((wrong, True), (right, False)):
+            for text in texts:
+                function = ast.parse(f"def f(self, a):\n    {text}").body[0]
+                self.assertIs(bool(calls_of(function, {"index", "many"})), expected, text)
 
     def test_faults_are_seen(self):
         wrong = ("self.x = 1", "a[0] = 1", "a.append(1)", "b = a\nb.append(1)", "a()", "del a[0]", "b = {}\nb.x = 1", "a.x += 1")

@@ -88,6 +88,21 @@ class TwoWays(ErrorCase):
             failed = draw_failed(rng, program)
             self.assertEqual(repr(ledger.loses(*failed)), repr(lost(run, *failed)))
 
+    def test_programs_side_by_side(self):
+        for rng, one in draws(40, seed=12, processes=(2, 2), kinds=(1, 2)):
+            other = one.renamed({name: name + "z" for name in one.processes + one.kinds})
+            for program in (one | other, other | one):
+                run = draw_run(rng, program, 20)
+                self.assert_rows(run)
+                parts = [Ledger(part) for part in (one, other)]
+                for step in run:
+                    parts[step[0] in other].do(step)
+                rows = {**parts[0].rows, **parts[1].rows}
+                found = Ledger.of(run).rows
+                self.assertEqual(found, rows)
+                letters = sorted([holder for holder in rows if holder not in program])
+                self.assertEqual(list(found), [*program.processes, *letters])
+
     def test_a_letter_that_vanishes(self):
         ledger = Ledger(LOSSY)
         ledger.do(("s", 0), ("s", 1), ("s", 0))

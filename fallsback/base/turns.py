@@ -44,45 +44,45 @@ def turns_of(machines, kinds):
 
     A kind has one state, with a vanishing for each position of its lane if it is not sure.
     """
-    return {name: _machine_turns(machines, kinds, name) if name in machines else _kind_turns(kinds, name)
-            for name in sorted([*machines, *kinds])}
+    codes = {name: code for code, name in enumerate(machines)}
+    rooms = {kind: (number, room, sure) for number, (kind, (_, _, room, sure)) in enumerate(kinds.items())}
+    return {name: _machine_turns(name, codes[name], machines[name], rooms) if name in machines
+            else _kind_turns(name, rooms[name]) for name in sorted([*machines, *kinds])}
 
 
-def _machine_turns(machines, kinds, name):
-    """What the steps of a process do, as above."""
-    process = list(machines).index(name)
-    table = [_state_turns(name, process, at, state, kinds) for at, state in enumerate(machines[name].states)]
+def _machine_turns(name, process, machine, rooms):
+    """What the steps of a process do, as above; for each kind `rooms` has its number, its room, and if it is sure."""
+    table = [_state_turns(name, process, at, state, rooms) for at, state in enumerate(machine.states)]
     return (3 * process, 7, tuple(table))
 
 
-def _state_turns(name, process, at, state, kinds):
+def _state_turns(name, process, at, state, rooms):
     """The turns of the moves of a state."""
-    return tuple([Turn((name, number), process, move, _lane_of(move, kinds), _change_of(process, at, move, kinds))
+    return tuple([Turn((name, number), process, move, _lane_of(move, rooms), _change_of(process, at, move, rooms))
                   for number, move in enumerate(state)])
 
 
-def _lane_of(move, kinds):
+def _lane_of(move, rooms):
     act, kind, _, _, _ = move
     if kind is None:
         return _NO_LANE
-    _, _, room, sure = kinds[kind]
-    number = list(kinds).index(kind)
+    number, room, sure = rooms[kind]
     return (act, number, 0, sure, 0, room - 1) if act == "send" else (act, number, 0, sure, 1, room)
 
 
-def _change_of(process, at, move, kinds):
+def _change_of(process, at, move, rooms):
     act, kind, target, _, _ = move
     change = (target - at) * (1 << 3 * process)
     if kind is None:
         return change
-    letter = 1 << LANES_AT + 2 * list(kinds).index(kind)
+    number, _, _ = rooms[kind]
+    letter = 1 << LANES_AT + 2 * number
     return change + (letter if act == "send" else -letter)
 
 
-def _kind_turns(kinds, name):
-    """What the vanishings of the letters of a kind do, as above."""
-    number = list(kinds).index(name)
-    _, _, room, sure = kinds[name]
+def _kind_turns(name, kind):
+    """What the vanishings of the letters of a kind do, as above, by its number, its room, and if it is sure."""
+    number, room, sure = kind
     lanes = [("vanish", number, position, sure, position + 1, room) for position in range(0 if sure else room)]
     change = -(1 << LANES_AT + 2 * number)
     return (0, 0, (tuple([Turn((name, lane[2]), None, None, lane, change) for lane in lanes]),))

@@ -81,15 +81,15 @@ def nexts_to_failures(program, outlook):
                 failing = _failing_at(program, rows, number)
                 if failing is not None:
                     nexts[here, process, number] = ((failing,), None)
-    ahead = list(nexts)
-    while ahead:
-        found = []
-        for node in ahead:
-            for event, other in backward.get(node, ()):
-                if other not in nexts:
-                    nexts[other] = (event, node)
-                    found.append(other)
-        ahead = found
+    queue = list(nexts)
+    at = 0
+    while at < len(queue):
+        node = queue[at]
+        for event, other in backward.get(node, ()):
+            if other not in nexts:
+                nexts[other] = (event, node)
+                queue.append(other)
+        at += 1
     return nexts
 
 

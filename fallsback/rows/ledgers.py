@@ -84,16 +84,16 @@ def _is_number(value):
 def _row_at(program, grid, prices, code):
     """The row of the holder with this code."""
     names, letters = names_in(program, row_in(grid, code))
-    return ({name: prices[program.processes.index(name)][code] for name in names}, letters)
+    return ({name: row[code] for name, row in zip(program.processes, prices) if name in names}, letters)
 
 
 def _pay(pose, grid, turn, prices):
     """Goes on with the prices of all rows: for each process a list of those of the holders with each code."""
     process = turn.process
     if turn.price:
-        row = prices[process]
+        paid = prices[process]
         for code in bits(slot_in(grid, process)):
-            row[code] += turn.price
+            paid[code] += turn.price
     if turn.act == "send" and turn.sure:
         newest = turn.letter + (pose >> turn.lane & 3)
         for row in prices:
